@@ -1,0 +1,1 @@
+"""Evenrules: numbers that keep sorted trees and shelves of pages fair, judged for all of them."""

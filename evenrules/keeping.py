@@ -1,0 +1,35 @@
+"""Copies of values, so that what is done to a list or a dict afterwards does not reach them."""
+
+
+def kept(value):
+    """The value, with a copy of each list and each dict in it, however deep it stands."""
+    things, ends = [value], []
+    at = 0
+    # No recursion: the layout of a tree is as deep as the tree is high.
+    while at < len(things):
+        things.extend(parts_of(things[at]))
+        ends.append(len(things))
+        at += 1
+    made = list(things)
+    loose = [isinstance(thing, (list, dict)) for thing in things]
+    for place in range(len(things) - 1, -1, -1):
+        first, end = ends[place - 1] if place > 0 else 1, ends[place]
+        if any(loose[first:end]):
+            loose[place] = True
+        if loose[place]:
+            made[place] = rebuilt(things[place], made[first:end])
+    return made[0]
+
+
+def parts_of(value):
+    """The list of the values that stand in a value; keys of dicts cannot change and are left out."""
+    if isinstance(value, (list, tuple)):
+        return list(value)
+    return list(value.values()) if isinstance(value, dict) else []
+
+
+def rebuilt(value, parts):
+    """A list, a tuple or a dict like this one, with other parts; they stand in a list of their own."""
+    if isinstance(value, dict):
+        return {key: part for key, part in zip(list(value), parts)}
+    return tuple(parts) if isinstance(value, tuple) else parts
