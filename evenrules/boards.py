@@ -153,14 +153,17 @@ class Board:
     def fix(self, name, other):
         """The slack of a test, 0 at the corner as that of the opposite test, comes to the sides and stays 0."""
         if name in self.rows:
-            row = self.rows[name]
-            for place, side in enumerate(self.sides):
-                if row[place + 1] != 0 and side not in self.fixed:
-                    self.swap(name, place)
-                    break
+            self.swap(name, self.first_share(self.rows[name]))
         if other in self.rows:
             del self.rows[other]
         self.fixed[name] = other
+
+    def first_share(self, row):
+        """The first place of a side that is not fixed and of which a row has a share; None if there is none."""
+        for place, side in enumerate(self.sides):
+            if row[place + 1] != 0 and side not in self.fixed:
+                return place
+        return None
 
     def is_tied(self, name):
         """Whether a variable has no share of an unknown that is at the sides, where all tests leave it free."""

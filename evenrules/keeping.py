@@ -3,7 +3,8 @@
 
 def kept(value):
     """The value, with a copy of each list and each dict in it, however deep it stands."""
-    things, ends = [value], []
+    things = [value]
+    ends = []
     at = 0
     # No recursion: the layout of a tree is as deep as the tree is high.
     while at < len(things):

@@ -13,6 +13,8 @@ SUM = "sum"
 ODD = "odd"
 SPLIT = "split"
 MOST_CHOICES = 32
+# So many papers a split has by a guess that did well in trials.
+SPLIT_COST = 10
 # One search after the other: how many papers a plan may have, how many splits are tried at a spot, and at how many
 # spots more than one. Short plans are looked for with care; of long ones the first one that is found will do.
 SEARCHES = ((4, 32, 50), (12, 32, 100), (40, 32, 200), (5000, 1, 0), (5000, 2, 4000))
@@ -49,8 +51,8 @@ class Choice:
         self.first = (start - bound) % self.gap
 
     def cost(self):
-        """About the least number of papers: an amount that the grid has is likely to need two of them."""
-        return 1 + self.many + max(0, (self.many - 1 - self.first) // self.gap + 1)
+        """A guess at the number of papers: an amount that the grid has needs a split of its own."""
+        return self.many + SPLIT_COST * max(0, (self.many - 1 - self.first) // self.gap + 1)
 
     def low_plan(self, spot):
         """A pair: how far above its bound the amount is at least, and the plan of the amounts below."""

@@ -2,7 +2,7 @@
 
 from evenrules.checks import is_within
 from evenrules.errors import BadNumber, BadRule, BadText, NoHalves
-from evenrules.words import read_number, read_pair
+from evenrules.words import pair_word, read_number, read_pair
 
 MOST_PLUS = 6
 MOST_TURN = 8
@@ -81,8 +81,7 @@ class TurnRule(WeightRule):
                 and self.turn == other.turn and self.turn_plus == other.turn_plus)
 
     def __str__(self):
-        over, under = self.turn
-        return f"turn {shared_text(self)} {over}/{under} {self.turn_plus}"
+        return f"turn {pair_word(self.times)} {self.plus} {pair_word(self.turn)} {self.turn_plus}"
 
 
 class TryRule(WeightRule):
@@ -110,7 +109,7 @@ class TryRule(WeightRule):
         return isinstance(other, TryRule) and self.times == other.times and self.plus == other.plus
 
     def __str__(self):
-        return f"try {shared_text(self)}"
+        return f"try {pair_word(self.times)} {self.plus}"
 
 
 def are_fair(rule, x, y):
@@ -166,12 +165,6 @@ def need_halves(times, plus):
         raise NoHalves(2)
     if not has_halves(times, plus):
         raise NoHalves(3)
-
-
-def shared_text(rule):
-    """The words that the rules of both kinds have."""
-    over, under = rule.times
-    return f"{over}/{under} {rule.plus}"
 
 
 def wrong_word(words):

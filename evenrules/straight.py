@@ -4,7 +4,7 @@ from math import gcd
 
 from evenrules.checks import is_integer
 from evenrules.errors import BadNumber, BadOther, BadTest, BadText
-from evenrules.words import number_word, read_number
+from evenrules.words import number_word, number_words, read_number
 
 MOST_PARTS = 5
 MOST_TESTS = 20
@@ -63,8 +63,7 @@ class Test:
         return isinstance(other, Test) and self.parts == other.parts and self.bound == other.bound
 
     def __str__(self):
-        parts = " ".join([number_word(part) for part in self.parts])
-        return f"{parts} >= {number_word(self.bound)}"
+        return f"{number_words(self.parts)} >= {number_word(self.bound)}"
 
     @classmethod
     def read(cls, text):

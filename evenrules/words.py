@@ -19,6 +19,16 @@ def number_word(number):
     return f"-{digits}" if number < 0 else digits
 
 
+def number_words(numbers):
+    """The words of integers, with single spaces between."""
+    return " ".join([number_word(number) for number in numbers])
+
+
+def pair_word(pair):
+    """The word of a pair of integers, as 3/1."""
+    return f"{number_word(pair[0])}/{number_word(pair[1])}"
+
+
 def read_number(word):
     """The integer that has this word; None if none has."""
     digits = word[1:] if word.startswith("-") else word
