@@ -139,16 +139,12 @@ class Board:
 
     def tell(self, name, above, equal):
         """Fixes the slack of a test at so much; the two tests that tell this are named equal and equal + 1."""
-        row = self.row_of(name)
-        row = [row[0] - above * self.scale, *row[1:]]
-        if row[0] <= 0:
-            self.rows[equal] = row
-            self.lift(equal)
-            self.fix(equal, equal + 1)
-        else:
-            self.rows[equal + 1] = [-share for share in row]
-            self.lift(equal + 1)
-            self.fix(equal + 1, equal)
+        self.climb_down(name)
+        own, *shares = self.row_of(name)
+        self.rows[equal] = [own - above * self.scale, *shares]
+        # Where the slack is least it is not above what it shall be, and can be lifted to it.
+        self.lift(equal)
+        self.fix(equal, equal + 1)
 
     def fix(self, name, other):
         """The slack of a test, 0 at the corner as that of the opposite test, comes to the sides and stays 0."""

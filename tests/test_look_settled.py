@@ -111,6 +111,8 @@ class RightTest(unittest.TestCase):
         self.assertIs(shows_none(ENDS, Split(1, (1, 1), ())), True)
         self.assertIs(shows_none(ENDS, Split(0, (1, 1), (Sum((1, 1, 0, 0)),))), False)
         self.assertIs(shows_none(THIRDS, Split(0, (1, 1), ())), False)
+        for at in (2, 3, -1, -2):
+            self.assertIs(shows_none(ENDS, Split(at, (1, 1), ())), False)
         self.assertIs(shows_none([*ENDS, *read("1 >= 0")], Split(2, (1, 1, 0), ())), False)
 
     def test_splits_by_a_told_test(self):

@@ -28,11 +28,12 @@ class PapersTest(unittest.TestCase):
 
     def test_lists_that_were_passed_may_be_changed(self):
         for paper, parameters in PARAMETERS.items():
-            inner = [1, 2]
-            made = paper(*[(inner, {"a": inner}) for _ in parameters])
+            inner, last = [1, 2], []
+            made = paper(*[(inner, {"a": inner}, last) for _ in parameters])
             inner.append(3)
+            last.append(4)
             for parameter in parameters:
-                self.assertEqual(getattr(made, parameter), ([1, 2], {"a": [1, 2]}))
+                self.assertEqual(getattr(made, parameter), ([1, 2], {"a": [1, 2]}, []))
 
     def test_equal(self):
         for paper, parameters in PARAMETERS.items():

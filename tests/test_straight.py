@@ -171,6 +171,14 @@ class TextTest(unittest.TestCase):
         self.assertEqual(str(great), text)
         self.assertEqual(StraightTest.read(text), great)
 
+    def test_numbers_of_every_length(self):
+        digits = "9876543210" * 20
+        for length in range(1, 200):
+            for word in (digits[:length], f"-{digits[:length]}", f"1{'0' * length}"):
+                test = StraightTest.read(f"{word} >= {word}")
+                self.assertEqual((test.parts[0], test.bound), (int(word), int(word)))
+                self.assertEqual(str(test), f"{word} >= {word}")
+
     def test_wrong_texts(self):
         wrong = [
             ("", 0), (" ", 0), (">= 1", 0), ("x >= 1", 0), (" 1 >= 1", 0), ("+1 >= 1", 0), ("01 >= 1", 0), ("-0 >= 1", 0),
