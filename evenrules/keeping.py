@@ -34,3 +34,34 @@ def rebuilt(value, parts):
     if isinstance(value, dict):
         return {key: part for key, part in zip(list(value), parts)}
     return tuple(parts) if isinstance(value, tuple) else parts
+
+
+def are_same(one, other):
+    """Whether two values are equal, their kinds counted: True is not 1, a list is not a tuple."""
+    pairs = [(one, other)]
+    # No recursion: the layout of a tree is as deep as the tree is high.
+    while pairs:
+        mine, its = pairs.pop()
+        if isinstance(mine, (list, tuple, dict)):
+            if not are_alike(mine, its):
+                return False
+            pairs.extend(pairs_of_parts(mine, its))
+        elif isinstance(mine, bool) != isinstance(its, bool) or mine != its:
+            return False
+    return True
+
+
+def are_alike(one, other):
+    """Whether a list, a tuple or a dict is of the kind of another value, with as many parts, and the same names."""
+    if isinstance(one, dict):
+        return isinstance(other, dict) and len(one) == len(other) and all([name in other for name in one])
+    is_same_kind = isinstance(other, list) if isinstance(one, list) else isinstance(other, tuple)
+    return is_same_kind and len(one) == len(other)
+
+
+def pairs_of_parts(one, other):
+    """The parts of two lists, tuples or dicts side by side, the names of dicts among them."""
+    if not isinstance(one, dict):
+        return list(zip(one, other))
+    names = {name: name for name in other}
+    return [*[(name, names[name]) for name in one], *[(one[name], other[name]) for name in one]]

@@ -2,99 +2,147 @@
 
 from evenrules.checks import is_integer, is_within
 from evenrules.papers import MOST_PAPERS
-from evenrules.settled import Odd, Split, Sum
-from evenrules.straight import need_tests, opposite, rows_of
+from evenrules.settled import Answer, Odd, Split, Sum
+from evenrules.straight import need_tests
 
 MOST_DEPTH = 20
+
+
+class Level:
+    """The tests that papers stand for: for each unknown its parts in all of them, and the bounds.
+
+    The papers of a split have the same tests but for the bounds of the last two: these change by the gains from one
+    paper to the next, and the bounds are those of the first one.
+    """
+
+    def __init__(self, columns, bounds, gains, depth):
+        self.columns = columns
+        self.bounds = bounds
+        self.gains = gains
+        self.depth = depth
+        # Of the tests that odd sums have asked for: whether their opposites stand among those that do not change.
+        self.paired = {}
+
+    def inner(self, at):
+        """The level of the papers of a split by the test with an index."""
+        columns = [[*column, column[at], -column[at]] for column in self.columns]
+        bound = self.bounds[at]
+        return Level(columns, [*self.bounds, bound, -bound], [*[0] * len(self.bounds), 1, -1], self.depth + 1)
+
+    def moved(self, times):
+        """The level of the paper with an index alone."""
+        bounds = [bound + times * gain for bound, gain in zip(self.bounds, self.gains)]
+        return Level(self.columns, bounds, [0] * len(bounds), self.depth)
+
+    def is_paired(self, at):
+        """Whether the opposite of a test is there in each of the papers, as both change alike or not at all."""
+        if at not in self.paired:
+            others = [other for other in self.opposites(at, 0) if self.gains[other] == -self.gains[at]]
+            self.paired[at] = len(others) > 0
+        return self.paired[at]
+
+    def opposites(self, at, times):
+        """The indexes of the tests that are the opposite of a test, as the paper with an index has them."""
+        bounds = self.moved(times).bounds if times > 0 else self.bounds
+        found = [other for other, bound in enumerate(bounds) if bound == -bounds[at]]
+        for column in self.columns:
+            found = [other for other in found if column[other] == -column[at]]
+        return found
 
 
 def shows_none(tests, value):
     """Whether any value is a Sum, a Split or an Odd that is right for the tests."""
     need_tests(tests)
-    waiting = [(value, rows_of(tests), 0)]
-    seen = 0
+    columns = [[test.parts[at] for test in tests] for at in range(len(tests[0].parts))]
+    waiting = [(value, Level(columns, [test.bound for test in tests], [0] * len(tests), 0))]
+    seen = 1
     while waiting:
-        paper, rows, depth = waiting.pop()
-        seen += 1
-        if depth > MOST_DEPTH or not is_right(paper, rows):
-            return False
-        if isinstance(paper, Split):
-            if seen + len(waiting) + len(paper.papers) > MOST_PAPERS:
+        paper, level = waiting.pop()
+        if not isinstance(paper, Split):
+            if not is_end(paper, level, 0, 0):
                 return False
-            waiting.extend(inner_papers(paper, rows, depth + 1))
+            continue
+        if not is_split(paper, level):
+            return False
+        seen += len(paper.papers)
+        inner = level.inner(paper.at)
+        if seen > MOST_PAPERS or not ends_are_right(paper.papers, inner):
+            return False
+        for at, below in enumerate(paper.papers):
+            if isinstance(below, Split):
+                waiting.append((below, inner.moved(at)))
     return True
 
 
-def is_right(paper, rows):
-    """Whether a paper is right for rows, pairs of parts and bound, but for the papers in it."""
+def ends_are_right(papers, level):
+    """Whether all papers of a split are papers, not too deep, and those of them right that are no splits."""
+    if not all([isinstance(paper, Answer) for paper in papers]) or (len(papers) > 0 and level.depth > MOST_DEPTH):
+        return False
+    # One and the same paper often stands for many amounts in a row: it is looked at once.
+    starts = [at for at in range(len(papers)) if at == 0 or not papers[at].is_just(papers[at - 1])]
+    for start, end in zip(starts, [*starts[1:], len(papers)]):
+        if not isinstance(papers[start], Split) and not is_end(papers[start], level, start, end - 1):
+            return False
+    return True
+
+
+def is_end(paper, level, first, last):
+    """Whether a paper without others in it is right as each of the papers from the index first to last."""
     if isinstance(paper, Sum):
-        return are_weights(paper.weights, rows) and none_below(paper.weights) and is_sum(paper.weights, rows)
-    if isinstance(paper, Split):
-        return are_weights(paper.weights, rows) and none_below(paper.weights) and is_split(paper, rows)
-    if isinstance(paper, Odd):
-        return are_weights(paper.weights, rows) and is_odd(paper.weights, paper.divisor, rows)
-    return False
+        return is_sum(paper.weights, level, first, last)
+    return isinstance(paper, Odd) and is_odd(paper, level, first, last)
 
 
-def are_weights(weights, rows):
-    """Whether a value is a tuple with an integer for each row."""
-    return isinstance(weights, tuple) and len(weights) == len(rows) and all([is_integer(item) for item in weights])
+def used_weights(weights, level):
+    """The pairs of index and weight of all weights but 0; None for what is no tuple with an integer for each test."""
+    if not isinstance(weights, tuple) or len(weights) != len(level.bounds):
+        return None
+    if not all([isinstance(weight, int) and not isinstance(weight, bool) for weight in weights]):
+        return None
+    return [(at, weight) for at, weight in enumerate(weights) if weight != 0]
 
 
-def none_below(weights):
-    """Whether all weights are from 0 on."""
-    return all([weight >= 0 for weight in weights])
+def added(used, numbers):
+    """The weighted numbers, added."""
+    return sum([weight * numbers[at] for at, weight in used])
 
 
-def added_parts(weights, rows):
-    """The weighted parts, added for each unknown."""
-    many = len(rows[0][0])
-    return [sum([weight * row[0][at] for weight, row in zip(weights, rows)]) for at in range(many)]
+def add_up_to_nothing(used, level):
+    """Whether weights are from 0 on, and the weighted parts add up to 0 for each unknown."""
+    if used is None or any([weight < 0 for _, weight in used]):
+        return False
+    return all([added(used, column) == 0 for column in level.columns])
 
 
-def added_bounds(weights, rows):
-    """The weighted bounds, added."""
-    return sum([weight * row[1] for weight, row in zip(weights, rows)])
+def is_sum(weights, level, first, last):
+    """Whether these weights make a sum for each of the papers from first to last."""
+    used = used_weights(weights, level)
+    if not add_up_to_nothing(used, level):
+        return False
+    own, gain = added(used, level.bounds), added(used, level.gains)
+    return own + first * gain >= 1 and own + last * gain >= 1
 
 
-def are_nothing(amounts):
-    """Whether all amounts are 0."""
-    return all([amount == 0 for amount in amounts])
-
-
-def is_sum(weights, rows):
-    """Whether these weights make a sum."""
-    return are_nothing(added_parts(weights, rows)) and added_bounds(weights, rows) >= 1
-
-
-def is_split(paper, rows):
+def is_split(paper, level):
     """Whether a split has a test, weights for it, and as many papers as this test has amounts."""
-    if not is_within(paper.at, 0, len(rows) - 1) or not isinstance(paper.papers, tuple):
+    if not is_within(paper.at, 0, len(level.bounds) - 1) or not isinstance(paper.papers, tuple):
         return False
-    weight = paper.weights[paper.at]
-    if weight < 1 or not are_nothing(added_parts(paper.weights, rows)):
+    used = used_weights(paper.weights, level)
+    if not add_up_to_nothing(used, level) or paper.weights[paper.at] < 1:
         return False
-    amounts = -added_bounds(paper.weights, rows) // weight + 1
+    amounts = -added(used, level.bounds) // paper.weights[paper.at] + 1
     return len(paper.papers) == max(0, amounts)
 
 
-def is_odd(weights, divisor, rows):
-    """Whether these weights and a divisor make an odd sum."""
-    if not is_integer(divisor) or divisor < 2:
+def is_odd(paper, level, first, last):
+    """Whether an odd sum is right as each of the papers from first to last."""
+    divisor, used = paper.divisor, used_weights(paper.weights, level)
+    if not is_integer(divisor) or divisor < 2 or used is None:
         return False
-    for weight, row in zip(weights, rows):
-        if weight != 0 and opposite(row) not in rows:
-            return False
-    if not are_nothing([amount % divisor for amount in added_parts(weights, rows)]):
+    if any([added(used, column) % divisor != 0 for column in level.columns]):
         return False
-    return added_bounds(weights, rows) % divisor != 0
-
-
-def inner_papers(paper, rows, depth):
-    """The papers of a split, each with its rows and how deep it stands."""
-    parts, bound = rows[paper.at]
-    inner = []
-    for at, below in enumerate(paper.papers):
-        equal = (parts, bound + at)
-        inner.append((below, [*rows, equal, opposite(equal)], depth))
-    return inner
+    own, gain = added(used, level.bounds), added(used, level.gains)
+    if any([(own + times * gain) % divisor == 0 for times in range(first, last + 1)]):
+        return False
+    alone = [at for at, _ in used if not level.is_paired(at)]
+    return all([len(level.opposites(at, times)) > 0 for at in alone for times in range(first, last + 1)])

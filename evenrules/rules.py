@@ -28,14 +28,12 @@ class WeightRule(Rule):
     def greatest(self, x):
         """The greatest weight that is fair beside x."""
         need_weight(x)
-        over, under = self.times
-        return (over * x + self.plus) // under
+        return greatest_beside(self, x)
 
     def least(self, y):
         """The least weight that is fair beside y."""
         need_weight(y)
-        over, under = self.times
-        return max(1, -((self.plus - under * y) // over))
+        return least_beside(self, y)
 
     @staticmethod
     def read(text):
@@ -116,6 +114,24 @@ def are_fair(rule, x, y):
     """Whether two weights of any size are fair."""
     over, under = rule.times
     return under * y <= over * x + rule.plus and under * x <= over * y + rule.plus
+
+
+def greatest_beside(rule, x):
+    """The greatest weight that is fair beside a weight of any size."""
+    over, under = rule.times
+    return (over * x + rule.plus) // under
+
+
+def least_beside(rule, y):
+    """The least weight that is fair beside a weight of any size."""
+    over, under = rule.times
+    return max(1, -((rule.plus - under * y) // over))
+
+
+def need_rule(value):
+    """Raises BadRule for what is no rule by weights."""
+    if not isinstance(value, WeightRule):
+        raise BadRule("rule")
 
 
 def need_weight(value):

@@ -14,6 +14,10 @@ from evenrules.straight import need_tests, rows_of
 class Answer:
     """What `settled` tells."""
 
+    def is_just(self, other):
+        """Whether this is one and the same object as another one."""
+        return self is other
+
 
 class Point(Answer):
     """Whole numbers that keep all tests."""
