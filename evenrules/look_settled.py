@@ -15,24 +15,25 @@ class Level:
     paper to the next, and the bounds are those of the first one.
     """
 
-    def __init__(self, columns, bounds, gains, depth):
+    def __init__(self, columns, bounds, gains, splits):
         self.columns = columns
         self.bounds = bounds
         self.gains = gains
-        self.depth = depth
-        # Of the tests that odd sums have asked for: whether their opposites stand among those that do not change.
+        # How many splits stand around the papers.
+        self.splits = splits
+        # Of the tests that odd sums have asked for: whether their opposites are there for all papers.
         self.paired = {}
 
-    def inner(self, at):
+    def level_inside(self, at):
         """The level of the papers of a split by the test with an index."""
         columns = [[*column, column[at], -column[at]] for column in self.columns]
         bound = self.bounds[at]
-        return Level(columns, [*self.bounds, bound, -bound], [*[0] * len(self.bounds), 1, -1], self.depth + 1)
+        return Level(columns, [*self.bounds, bound, -bound], [*[0] * len(self.bounds), 1, -1], self.splits + 1)
 
-    def moved(self, times):
+    def level_of(self, times):
         """The level of the paper with an index alone."""
         bounds = [bound + times * gain for bound, gain in zip(self.bounds, self.gains)]
-        return Level(self.columns, bounds, [0] * len(bounds), self.depth)
+        return Level(self.columns, bounds, [0] * len(bounds), self.splits)
 
     def is_paired(self, at):
         """Whether the opposite of a test is there in each of the papers, as both change alike or not at all."""
@@ -43,7 +44,7 @@ class Level:
 
     def opposites(self, at, times):
         """The indexes of the tests that are the opposite of a test, as the paper with an index has them."""
-        bounds = self.moved(times).bounds if times > 0 else self.bounds
+        bounds = self.level_of(times).bounds if times > 0 else self.bounds
         found = [other for other, bound in enumerate(bounds) if bound == -bounds[at]]
         for column in self.columns:
             found = [other for other in found if column[other] == -column[at]]
@@ -65,18 +66,18 @@ def shows_none(tests, value):
         if not is_split(paper, level):
             return False
         seen += len(paper.papers)
-        inner = level.inner(paper.at)
+        inner = level.level_inside(paper.at)
         if seen > MOST_PAPERS or not ends_are_right(paper.papers, inner):
             return False
         for at, below in enumerate(paper.papers):
             if isinstance(below, Split):
-                waiting.append((below, inner.moved(at)))
+                waiting.append((below, inner.level_of(at)))
     return True
 
 
 def ends_are_right(papers, level):
     """Whether all papers of a split are papers, not too deep, and those of them right that are no splits."""
-    if not all([isinstance(paper, Answer) for paper in papers]) or (len(papers) > 0 and level.depth > MOST_DEPTH):
+    if not all([isinstance(paper, Answer) for paper in papers]) or (len(papers) > 0 and level.splits > MOST_DEPTH):
         return False
     # One and the same paper often stands for many amounts in a row: it is looked at once.
     starts = [at for at in range(len(papers)) if at == 0 or not papers[at].is_just(papers[at - 1])]

@@ -3,9 +3,12 @@
 from itertools import product
 
 from evenrules import errors
+from evenrules.cases import Case
+from evenrules.judged import From, Right, Wrong
 from evenrules.rules import TryRule, TurnRule
 from evenrules.settled import Odd, Point, Split, Sum, Top
 from evenrules.straight import Test as StraightTest
+from evenrules.trees import Tree
 from evenrules.within import Parted, Within
 
 
@@ -25,7 +28,9 @@ def any_values():
         [[[[[[[[1]]]]]]]], list(range(3000)), {}, {1: 2}, {"a": [1, {"b": (2, 3)}]}, deep_tuple(2000),
         StraightTest((1,), 0), StraightTest((3, -2), 1), Point((1,)), Sum((1, 1)), Split(0, (1, 1), ()),
         Odd((1, 0), 2), Top(1, 2, (3,)), TurnRule((3, 1), turn=(2, 1)), TryRule((2, 1)), Within(None), Parted(1, 3),
-        Sum([{"a": 1}]), Split(None, "x", [1]), Odd(None, None),
+        Sum([{"a": 1}]), Split(None, "x", [1]), Odd(None, None), Case("put", ("light", "first"), None),
+        Case(None, None, None), From(1, Sum((1,))), Right(()), Wrong("put", None, ("inner", "none"), (1, 1, 1)),
+        Tree(TryRule((3, 1))), Tree(TurnRule((3, 1), turn=(2, 1)), [(1, None), (2, [3])]),
     ]
 
 

@@ -28,6 +28,16 @@ WHERE = {
     "look_settled": ["shows_none"],
     "rules": ["Rule", "WeightRule", "TurnRule", "TryRule"],
     "within": ["within", "Within", "tests_within", "Parted", "same_trees"],
+    "look_within": ["shows_within"],
+    "heights": ["least_keys", "heights", "greatest_height", "least_height", "halves_shape", "tall_shape", "keys_of",
+                "height_of", "is_fair"],
+    "counts": ["counts", "shapes", "shape_at", "place_of"],
+    "reading": ["Reading"],
+    "parts": ["Parts"],
+    "trees": ["Tree"],
+    "cases": ["Case", "cases", "tests_of", "numbers_break"],
+    "judged": ["judge", "From", "Right", "Wrong", "breaks"],
+    "falls": ["fall_of"],
 }
 IN_CLASSES = {
     "straight.Test": ["__len__", "amount", "__call__", "__add__", "__mul__", "__rmul__", "__neg__", "__invert__",
@@ -35,15 +45,25 @@ IN_CLASSES = {
     "rules.WeightRule": ["__call__", "greatest", "least", "read"],
     "rules.TurnRule": ["__init__", "turns", "__eq__", "__str__"],
     "rules.TryRule": ["__init__", "turns", "__eq__", "__str__"],
+    "reading.Reading": ["__len__", "__bool__", "__contains__", "__iter__", "falling", "__getitem__", "get", "least",
+                        "greatest", "below", "above", "place", "key_at", "between", "depth", "height", "layout",
+                        "__eq__", "__str__"],
+    "parts.Parts": ["__floordiv__", "__mod__", "cut", "__add__", "__or__", "__and__", "__sub__", "__le__", "__lt__"],
+    "trees.Tree": ["__init__", "halves", "put", "__setitem__", "drop", "__ior__", "rule", "exchange", "unfair", "trial",
+                   "tried", "twin"],
 }
+CHANGES = {"append", "extend", "insert", "pop", "remove", "clear", "update", "setdefault", "reverse", "add", "discard"}
+FILES = []
 BARRED = (ast.GeneratorExp, ast.Global, ast.AsyncFunctionDef, ast.Await, ast.Import)
 
 
 def trees():
     """The name, the text and the tree of each file of the package."""
-    for path in sorted(PACKAGE.glob("*.py")):
-        text = path.read_text(encoding="utf-8")
-        yield path.stem, text, ast.parse(text)
+    if not FILES:
+        for path in sorted(PACKAGE.glob("*.py")):
+            text = path.read_text(encoding="utf-8")
+            FILES.append((path.stem, text, ast.parse(text)))
+    return FILES
 
 
 def nodes(kind):
@@ -134,7 +154,102 @@ class LanguageTest(unittest.TestCase):
         for name, node in nodes(ast.Compare):
             for sign, right in zip(node.ops, node.comparators):
                 if isinstance(sign, (ast.Is, ast.IsNot)):
-                    self.assertTrue(isinstance(right, ast.Constant) and right.value in (None, True, False), name)
+                    plain = isinstance(right, ast.Constant) and right.value in (None, True, False)
+                    own = isinstance(node.left, ast.Name) and node.left.id == "self"
+                    self.assertTrue(plain or own, name)
+
+    def test_generators(self):
+        names = [node.name for _, node in nodes(ast.FunctionDef)]
+        generators = {node.name for _, node in nodes(ast.FunctionDef) if is_generator(node)}
+        self.assertLessEqual({"cases", "heights", "shapes", "falling", "between"}, generators)
+        for name in generators:
+            self.assertEqual(names.count(name), 1, name)
+            self.assertNotIn(name, METHODS)
+        wanted = set()
+        for _, node in nodes((ast.For, ast.comprehension)):
+            wanted.add(node.iter)
+        for name, node in nodes(ast.Call):
+            if called(node) in generators:
+                self.assertIn(node, wanted, (name, node.lineno))
+                self.assertTrue(all(isinstance(argument, (ast.Name, ast.Attribute)) for argument in node.args), name)
+
+    def test_attributes(self):
+        methods = {node.name: node for _, node in nodes(ast.FunctionDef)}
+        stored, read = set(), set()
+        for name, node in nodes(ast.Attribute):
+            if isinstance(node.ctx, ast.Store):
+                stored.add(node.attr)
+            else:
+                read.add(node.attr)
+        for word in stored:
+            owner = methods.get(word)
+            self.assertTrue(owner is None or not (is_generator(owner) or owner.decorator_list), word)
+            self.assertNotIn(word, ("keys", "items", "values", "pop", "update", "append", "sort", "format", "args"))
+        values = {"MOST", "setter"}
+        self.assertLessEqual(read - stored - set(methods) - METHODS - values, set())
+
+    def test_what_operators_run_changes_nothing(self):
+        bodies = {}
+        for _, node in nodes((ast.FunctionDef, ast.ClassDef)):
+            bodies.setdefault(node.name, []).append(node)
+        waiting = [node for _, node in nodes(ast.FunctionDef) if is_quiet(node)]
+        seen = []
+        while waiting:
+            node = waiting.pop()
+            if node in seen:
+                continue
+            seen.append(node)
+            if isinstance(node, ast.ClassDef):
+                waiting += [item for item in node.body if getattr(item, "name", "") == "__init__"]
+                continue
+            self.check_quiet(node)
+            for inner in ast.walk(node):
+                if isinstance(inner, ast.Call) and called(inner) not in METHODS:
+                    waiting += bodies.get(called(inner), [])
+        self.assertGreater(len(seen), 60)
+
+    def check_quiet(self, function):
+        made = {}
+        for node in ast.walk(function):
+            if isinstance(node, ast.Assign) and isinstance(node.targets[0], ast.Name):
+                made.setdefault(node.targets[0].id, []).append(node.value)
+        own = {word for word, values in made.items() if all(is_made_here(value) for value in values)}
+        for node in ast.walk(function):
+            if isinstance(node, ast.Attribute) and isinstance(node.ctx, (ast.Store, ast.Del)):
+                self.assertTrue(function.name == "__init__" and node.value.id == "self", (function.name, node.lineno))
+            if isinstance(node, ast.Subscript) and isinstance(node.ctx, (ast.Store, ast.Del)):
+                self.assertIn(node.value.id, own, (function.name, node.lineno))
+            if isinstance(node, ast.Call) and isinstance(node.func, ast.Attribute) and node.func.attr in CHANGES:
+                self.assertIn(node.func.value.id, own, (function.name, node.lineno))
+            if isinstance(node, ast.AugAssign):
+                self.assertTrue(isinstance(node.value, ast.Constant), (function.name, node.lineno))
+
+
+def is_generator(function):
+    """Whether a function yields."""
+    return any(isinstance(node, (ast.Yield, ast.YieldFrom)) for node in ast.walk(function))
+
+
+def called(call):
+    """The name of what is called."""
+    return call.func.attr if isinstance(call.func, ast.Attribute) else getattr(call.func, "id", None)
+
+
+def is_quiet(function):
+    """Whether a function is an operator, a property or another one that must change nothing."""
+    if any(isinstance(node, ast.Name) and node.id == "property" for node in function.decorator_list):
+        return True
+    changing = ("__init__", "__setitem__", "__ior__", "__call__", "__enter__", "__exit__", "__iter__")
+    return function.name.startswith("__") and function.name not in changing
+
+
+def is_made_here(value):
+    """Whether a value is a list or a dict that a function creates itself."""
+    if isinstance(value, ast.Call):
+        return called(value) in ("list", "dict", "sorted")
+    if isinstance(value, ast.BinOp):
+        return isinstance(value.op, ast.Mult) and isinstance(value.left, ast.List)
+    return isinstance(value, (ast.List, ast.ListComp, ast.Dict))
 
 
 def is_plain(node):

@@ -1,6 +1,7 @@
 """The looker: right papers of every kind, spoilt ones, long and deep ones, values that are no papers."""
 
 import random
+import time
 import unittest
 
 from evenrules.errors import BadTest
@@ -184,6 +185,63 @@ class LimitsTest(unittest.TestCase):
         inner = Odd((0, 0, 1, 0, 0, 0), 2)
         for many, right in ((4998, True), (4999, True), (5000, False), (5001, False), (9000, False)):
             self.assertIs(shows_none(told(many), Split(0, (1, 1, 0, 0), (inner,) * many)), right)
+
+    def test_five_thousand_papers_with_the_same_sum(self):
+        last = StraightTest((0,), 1)
+        paper = Split(0, (1, 1, 0), (Sum((0, 0, 1, 0, 0)),) * 4999)
+        self.assertIs(shows_none([StraightTest((1,), 0), StraightTest((-1,), -4998), last], paper), True)
+        paper = Split(0, (1, 1, 0), (Sum((0, 0, 1, 0, 0)),) * 5000)
+        self.assertIs(shows_none([StraightTest((1,), 0), StraightTest((-1,), -4999), last], paper), False)
+
+    def test_many_calls_at_the_greatest_papers_take_no_time(self):
+        tests = [StraightTest((1,), 0), StraightTest((-1,), -4998), StraightTest((0,), 1)]
+        for paper in (Sum((0, 0, 1, 0, 0)), Odd((0, 0, 0, 1, 0), 5000)):
+            split = Split(0, (1, 1, 0), (paper,) * 4999)
+            start = time.process_time()
+            for _ in range(100):
+                shows_none(tests, split)
+            # A tenth of what it would take if each paper were looked at on its own.
+            self.assertLess(time.process_time() - start, 1)
+
+    def test_one_wrong_paper_among_many(self):
+        tests = [StraightTest((1,), 0), StraightTest((-1,), -99), StraightTest((0,), 1)]
+        good, twin = Sum((0, 0, 1, 0, 0)), Sum((0, 0, 1, 0, 0))
+        for at in range(100):
+            for other, right in ((twin, True), (Sum((0, 0, True, 0, 0)), False), (Sum((0, 0, 0, 0, 0)), False),
+                                 (None, False), (Point((1,)), False)):
+                papers = (good,) * at + (other,) + (good,) * (99 - at)
+                self.assertIs(shows_none(tests, Split(0, (1, 1, 0), papers)), right)
+
+    def test_the_same_paper_is_not_right_for_all_amounts(self):
+        # x is 0 to 9, and at least 4: a sum for the amounts up to 3, another one for those up to 9.
+        tests = [StraightTest((1,), 0), StraightTest((-1,), -9), StraightTest((1,), 4), StraightTest((0,), 0)]
+        low, high = Sum((0, 0, 1, 0, 0, 1)), Sum((0, 0, 0, 1, 0, 0))
+        for many in range(11):
+            papers = (low,) * many + (high,) * (10 - many)
+            answer = shows_none(tests, Split(0, (1, 1, 0, 0), papers))
+            self.assertIs(answer, is_right_paper(pairs(tests), Split(0, (1, 1, 0, 0), papers)))
+            self.assertIs(answer, False)
+        tests[3] = StraightTest((0,), 1)
+        for many in range(11):
+            papers = (low,) * many + (high,) * (10 - many)
+            self.assertIs(shows_none(tests, Split(0, (1, 1, 0, 0), papers)), many <= 4)
+
+    def test_the_same_odd_sum_is_not_right_for_all_amounts(self):
+        # 3 * x is 1 to 5; for 3 it is whole.
+        tests = [StraightTest((3,), 1), StraightTest((-3,), -5), StraightTest((0,), 1)]
+        odd, other = Odd((0, 0, 0, 1, 0), 3), Sum((0, 0, 1, 0, 0))
+        for papers, right in (((odd, odd, other, odd, odd), True), ((odd,) * 5, False), ((odd,) * 2 + (other,) * 3, True),
+                              ((other, odd, odd, odd, other), False)):
+            self.assertIs(shows_none(tests, Split(0, (1, 1, 0), papers)), right)
+
+    def test_an_opposite_that_is_there_for_one_amount(self):
+        # The third test has its opposite in the list only where the amount of the second one is at its bound.
+        tests = [StraightTest((2,), -3), StraightTest((-2,), 1), StraightTest((2,), 1), StraightTest((0,), 1)]
+        odd, other = Odd((0, 0, 1, 0, 0, 0), 2), Sum((0, 0, 0, 1, 0, 0))
+        tests[1] = StraightTest((-2,), -1)
+        self.assertIs(shows_none(tests, Split(1, (1, 1, 0, 0), (odd, other, other, other, other))), True)
+        self.assertIs(shows_none(tests, Split(1, (1, 1, 0, 0), (odd, odd, other, other, other))),
+                      is_right_paper(pairs(tests), Split(1, (1, 1, 0, 0), (odd, odd, other, other, other))))
 
     def test_five_thousand_papers_in_several_splits(self):
         pair = Split(4, (0, 0, 0, 0, 1, 1), (Odd((0, 0, 1, 0, 0, 0, 0, 0), 2),))

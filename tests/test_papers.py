@@ -2,6 +2,8 @@
 
 import unittest
 
+from evenrules.cases import Case
+from evenrules.judged import From, Right, Wrong
 from evenrules.papers import Verdict
 from evenrules.settled import Answer, Odd, Point, Split, Sum, Top
 from evenrules.within import Parted, Within
@@ -9,10 +11,13 @@ from helping import any_values, deep_tuple
 
 PARAMETERS = {
     Point: ["numbers"], Sum: ["weights"], Split: ["at", "weights", "papers"], Odd: ["weights", "divisor"],
-    Top: ["high", "low", "weights"], Within: ["paper"], Parted: ["light", "heavy"],
+    Top: ["high", "low", "weights"], Within: ["paper"], Parted: ["light", "heavy"], Case: ["deed", "once", "twice"],
+    From: ["weight", "paper"], Right: ["papers"], Wrong: ["deed", "once", "twice", "numbers"],
 }
-TRUTHS = {Point: True, Sum: False, Split: False, Odd: False, Within: True, Parted: False}
-BASES = {Point: Answer, Sum: Answer, Split: Answer, Odd: Answer, Within: Verdict, Parted: Verdict}
+TRUTHS = {Point: True, Sum: False, Split: False, Odd: False, Within: True, Parted: False, Right: True,
+          Wrong: False}
+BASES = {Point: Answer, Sum: Answer, Split: Answer, Odd: Answer, Within: Verdict, Parted: Verdict,
+         Case: object, From: object, Right: Verdict, Wrong: Verdict}
 
 
 class PapersTest(unittest.TestCase):
@@ -20,7 +25,7 @@ class PapersTest(unittest.TestCase):
     def test_any_values_are_kept(self):
         for paper, parameters in PARAMETERS.items():
             for value in any_values():
-                values = [value, 2, 3][:len(parameters)]
+                values = [value, 2, 3, 4][:len(parameters)]
                 self.assertEqual(vars(paper(*values)), dict(zip(parameters, values)))
                 values.reverse()
                 named = dict(zip(parameters, values))
@@ -37,7 +42,7 @@ class PapersTest(unittest.TestCase):
 
     def test_equal(self):
         for paper, parameters in PARAMETERS.items():
-            values = [(1, 2), (1, 3), None][:len(parameters)]
+            values = [(1, 2), (1, 3), None, ()][:len(parameters)]
             self.assertTrue(paper(*values) == paper(*values))
             self.assertFalse(paper(*values) != paper(*values))
             for at in range(len(parameters)):
