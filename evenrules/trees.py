@@ -15,6 +15,8 @@ class Tree(Parts):
 
     def __init__(self, rule, items=()):
         need_rule(rule)
+        # The blocks of trials that have begun and not ended.
+        self._saved = None
         # A state that the package has made stands for its tree.
         if isinstance(items, State):
             self._state = items
@@ -82,8 +84,16 @@ class Tree(Parts):
         return tuple(unfair_keys(self._state))
 
     def trial(self):
-        """What a `with` wants, behind whose block the tree is as it was."""
-        return Trial(self)
+        """The tree, for `with`: behind the block it is as it was when the block began."""
+        return self
+
+    def __enter__(self):
+        self._saved = Saved(self._state, self._saved)
+        return self
+
+    def __exit__(self, *told):
+        self._state = self._saved.state
+        self._saved = self._saved.before
 
     def tried(self, work):
         """What work(tree) returns; the tree is as it was behind it."""
@@ -95,24 +105,8 @@ class Tree(Parts):
         return Tree(self._state.own_rule, self._state)
 
 
-class Trial:
-    """A block behind which a tree is as it was when the block began."""
-
-    def __init__(self, tree):
-        self.tree = tree
-        self.saved = None
-
-    def __enter__(self):
-        self.saved = Saved(self.tree._state, self.saved)
-        return self.tree
-
-    def __exit__(self, *told):
-        self.tree._state = self.saved.state
-        self.saved = self.saved.before
-
-
 class Saved:
-    """The state when a block began, and what was saved for the block around it that the same trial serves."""
+    """The state of a tree when a block began, and what was saved for the block around it."""
 
     def __init__(self, state, before):
         self.state = state
