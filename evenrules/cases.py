@@ -72,7 +72,7 @@ def cases(rule, deed):
 
 def is_deed(value):
     """Whether a value is the word of a deed."""
-    return isinstance(value, str) and value in DEEDS
+    return value in DEEDS
 
 
 def is_case(rule, value):

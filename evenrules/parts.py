@@ -58,7 +58,6 @@ class Parts(Reading):
         return all([key in its for key in self._state.order])
 
     def __lt__(self, other):
-        need_tree(other)
         return self <= other and len(self._state.order) < len(other._state.order)
 
 

@@ -226,6 +226,22 @@ class LimitsTest(unittest.TestCase):
             papers = (low,) * many + (high,) * (10 - many)
             self.assertIs(shows_none(tests, Split(0, (1, 1, 0, 0), papers)), many <= 4)
 
+    def test_a_sum_that_is_right_for_great_amounts(self):
+        # x is 0 to 9, and at most 5: the sum is right from the amount 6 on.
+        tests = [StraightTest((1,), 0), StraightTest((-1,), -9), StraightTest((-1,), -5), StraightTest((0,), 1)]
+        low, high = Sum((0, 0, 0, 1, 0, 0)), Sum((0, 0, 1, 0, 1, 0))
+        for many in range(11):
+            papers = (low,) * many + (high,) * (10 - many)
+            self.assertIs(shows_none(tests, Split(0, (1, 1, 0, 0), papers)), many >= 6)
+
+    def test_weights_below_nothing(self):
+        tests = read("1 >= 0", "-1 >= -5", "1 >= 3")
+        self.assertIs(shows_none(tests, Sum((-1, 0, 1))), False)
+        self.assertIs(shows_none([*tests, *read("-1 >= -2")], Sum((0, 0, 1, 1))), True)
+        self.assertIs(shows_none([*tests, *read("-1 >= -2")], Sum((-1, -1, 2, 2))), False)
+        self.assertIs(shows_none([*tests, *read("-1 >= -2")], Split(2, (-1, 0, 2, 1), ())), False)
+        self.assertIs(shows_none([*tests, *read("-1 >= -2")], Split(2, (0, 0, 1, 1), ())), True)
+
     def test_the_same_odd_sum_is_not_right_for_all_amounts(self):
         # 3 * x is 1 to 5; for 3 it is whole.
         tests = [StraightTest((3,), 1), StraightTest((-3,), -5), StraightTest((0,), 1)]
@@ -253,6 +269,14 @@ class LimitsTest(unittest.TestCase):
             self.assertIs(shows_none(SINGLES, nested(depth)), True)
         for depth in (21, 22, 50, 3000):
             self.assertIs(shows_none(SINGLES, nested(depth)), False)
+
+    def test_nested_splits_without_papers(self):
+        tests = read("1 0 >= 0", "-1 0 >= 0", "0 1 >= 1", "0 -1 >= 0")
+        for splits, right in ((1, True), (20, True), (21, True), (22, False), (23, False)):
+            paper = Split(2, (0, 0, 1, 1) + (0, 0) * (splits - 1), ())
+            for at in range(splits - 2, -1, -1):
+                paper = Split(0, (1, 1, 0, 0) + (0, 0) * at, (paper,))
+            self.assertIs(shows_none(tests, paper), right)
 
     def test_the_same_paper_in_many_places(self):
         # Few objects, but more papers than could ever be looked at.

@@ -129,6 +129,10 @@ class JoinedTest(PartsCase):
             other = Tree(OTHER, [(key, None) for key in keys])
             assert_raises(self, Overlap(least), lambda: one + other)
         assert_raises(self, Overlap(1), lambda: one + one)
+        single = Tree(RULE, [(5, None)])
+        for keys, least in (([5], 5), ([4], 4), ([3, 7], 3), ([5, 6], 5), ([-1, 0, 9], -1)):
+            assert_raises(self, Overlap(least), lambda: single + Tree(OTHER, [(key, None) for key in keys]))
+        self.assertEqual(list(single + Tree(OTHER, [(6, None)])), [5, 6])
         self.assertEqual(list(one + Tree(OTHER)), [1, 5, 9])
         self.assertEqual(list(Tree(OTHER) + one), [1, 5, 9])
         self.assertEqual(list(Tree(OTHER) + Tree(OTHER)), [])

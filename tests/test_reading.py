@@ -196,6 +196,15 @@ class EqualTest(unittest.TestCase):
         other[1] = (deep_tuple(2999), 2, ())
         self.assertIs(one == other, False)
 
+    def test_trees_as_values(self):
+        tree = Tree(RULE, [(1, Tree(RULE, [(2, "a")]))])
+        self.assertIs(tree == Tree(RULE, [(1, Tree.halves(RULE, [(2, "a")]))]), True)
+        self.assertIs(tree == Tree(RULE, [(1, Tree(RULE, [(2, "b")]))]), False)
+        tree.put(2, tree)
+        self.assertIs(tree == tree, True)
+        self.assertIs(tree == tree.twin(), True)
+        self.assertIs(tree[2] is tree, True)
+
     def test_other_values(self):
         for tree in (Tree(RULE), Tree(RULE, [(1, None), (2, [3])])):
             for value in [*any_values(), [1, 2], {1: None, 2: [3]}]:
