@@ -10,8 +10,8 @@ DEEDS = ("put", "take")
 # The breaks of one turn and of two turns, in order: a new node, and its side that is too heavy.
 ONCE = (("light", "first"), ("light", "second"), ("top", "first"), ("top", "second"))
 STUCK = ("inner", "none")
-TWICE = (STUCK, ("light", "first"), ("light", "second"), ("far", "first"), ("far", "second"), ("top", "first"),
-         ("top", "second"))
+TWICE = (("inner", "none"), ("light", "first"), ("light", "second"), ("far", "first"), ("far", "second"),
+         ("top", "first"), ("top", "second"))
 
 
 class Case:

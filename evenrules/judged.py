@@ -58,9 +58,10 @@ def judge(rule, deeds="both"):
     need_rule(rule)
     if not is_deed(deeds) and deeds != "both":
         raise BadDeeds(deeds)
+    asked = DEEDS if deeds == "both" else (deeds,)
     papers, loose = [], []
     end, breaks_later = 1, False
-    for deed in DEEDS if deeds == "both" else (deeds,):
+    for deed in asked:
         for case in cases(rule, deed):
             told = paper_from(rule, case)
             papers.append(told)
@@ -71,6 +72,7 @@ def judge(rule, deeds="both"):
             elif told.weight > end:
                 end = told.weight
     light = 1
+    # This is soon over: of all rules none breaks first at a weight above 78, and right ones need no paper from above 15.
     while light < end or breaks_later:
         wrong = wrong_at(rule, loose, light)
         if wrong is not None:

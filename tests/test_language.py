@@ -138,6 +138,25 @@ class LanguageTest(unittest.TestCase):
             else:
                 self.assertNotIn(word, builtin, name)
 
+    def test_local_names_are_no_imports_and_classes(self):
+        for name, _, tree in trees():
+            bound = {alias.name for node in ast.walk(tree) if isinstance(node, ast.ImportFrom) for alias in node.names}
+            bound |= {node.name for node in tree.body if isinstance(node, ast.ClassDef)}
+            for node in tree.body:
+                for inner in ast.walk(node):
+                    if isinstance(inner, ast.arg):
+                        self.assertNotIn(inner.arg, bound, name)
+                    if isinstance(inner, ast.Name) and isinstance(inner.ctx, ast.Store):
+                        self.assertNotIn(inner.id, bound, name)
+
+    def test_module_level_values_are_plain(self):
+        for name, _, tree in trees():
+            for node in tree.body:
+                if isinstance(node, ast.Assign):
+                    self.assertEqual(len(node.targets), 1)
+                    for inner in ast.walk(node.value):
+                        self.assertNotIsInstance(inner, (ast.Name, ast.Call, ast.Attribute, ast.ListComp), name)
+
     def test_methods_of_values(self):
         own = {node.name for _, node in nodes(ast.FunctionDef)}
         for name, node in nodes(ast.Call):
