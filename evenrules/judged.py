@@ -72,7 +72,7 @@ def judge(rule, deeds="both"):
             elif told.weight > end:
                 end = told.weight
     light = 1
-    # This is soon over: of all rules none breaks first at a weight above 78, and right ones need no paper from above 15.
+    # This is soon over: no rule breaks first at a weight above 78, and no right one needs a paper from above 15.
     while light < end or breaks_later:
         wrong = wrong_at(rule, loose, light)
         if wrong is not None:
