@@ -29,7 +29,7 @@ def without_key(rule, root, key):
     is_left = node.right.weight < node.left.weight
     below, neighbour = steps_to_neighbour(node, is_left)
     steps.append((node, neighbour.key, is_left))
-    steps.extend(below)
+    steps.extend(list(below))
     return mended(rule, steps, neighbour.left if is_left else neighbour.right, key)
 
 

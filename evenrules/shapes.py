@@ -9,7 +9,7 @@ def spread(shape):
         part = parts[at]
         if not isinstance(part, tuple) or len(part) not in (0, 2):
             return None
-        parts.extend(part)
+        parts.extend(list(part))
         at += 1
     return parts
 

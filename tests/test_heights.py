@@ -150,6 +150,18 @@ class ShapesTest(unittest.TestCase):
             both = (shape, halves_shape(100))
             self.assertEqual((keys_of(both), height_of(both)), (many + 101, many + 1))
 
+    def test_shapes_that_stand_in_themselves_more_than_once(self):
+        # One and the same object at both sides, and a shape whose sides are the parts of others.
+        shape = ((), ())
+        for many in range(1, 12):
+            self.assertEqual((keys_of(shape), height_of(shape)), (2 ** many - 1, many))
+            self.assertIs(is_fair(RULES[0], shape), True)
+            shape = (shape, shape)
+        deep = high_shape(900)
+        both = (deep, deep)
+        self.assertEqual((keys_of(both), height_of(both), is_fair(RULES[0], both)), (1801, 901, False))
+        self.assertEqual(both, (high_shape(900), high_shape(900)))
+
     def test_no_tree_is_lower_than_that_of_halves(self):
         for shape in all_shapes(TryRule((6, 1), 6), 9):
             self.assertLessEqual(height_of(halves_shape(8)), height_of(shape))

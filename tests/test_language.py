@@ -163,6 +163,12 @@ class LanguageTest(unittest.TestCase):
             if isinstance(node.func, ast.Attribute):
                 self.assertTrue(node.func.attr in METHODS or node.func.attr in own, (name, node.func.attr))
 
+    def test_what_is_added_to_a_list_is_another_list(self):
+        # A bare name could stand for a part of the very list that grows.
+        for name, node in nodes(ast.Call):
+            if called(node) in ("extend", "update") and isinstance(node.func, ast.Attribute):
+                self.assertIsInstance(node.args[0], (ast.List, ast.ListComp, ast.Call), (name, node.lineno))
+
     def test_any_and_its_kin_take_lists(self):
         for name, node in nodes(ast.Call):
             if isinstance(node.func, ast.Name) and node.func.id in ("sorted", "min", "max"):
