@@ -1,72 +1,106 @@
-"""Grips: the search for the least numbers by which a rule breaks at told weights."""
+"""Grips: the least numbers by which a rule breaks at told weights of the sides of a node."""
 
-from evenrules.cases import case_rows
-from evenrules.rules import greatest_beside
+from evenrules.cases import ONCE, STUCK, TWICE
+from evenrules.rules import TurnRule, greatest_beside, least_beside, least_part
 
 
 class Grip:
-    """The tests of a case, told by the weights a and b, by c, and by e where it is an unknown; d is b - c, f is c - e.
+    """A node that a deed has left with the sides a and b, which are not fair.
 
-    A row is a tuple: how many times a, b, c and e are at least a bound.
+    Each test tells an end for c or for e; the least c and e between the ends are the least numbers of a case.
+    Three breaks never have numbers. ("far", "first"): f is less than c, which is fair beside d. ("top", "second") of
+    either kind: the outer side is lighter than b, and b is fair beside a with one key more.
     """
 
-    def __init__(self, rule, case):
-        self.case = case
-        rows = [row_of_weights(parts, bound) for parts, bound in case_rows(rule, case)]
-        self.lows = [row for row in rows if row[3] > 0]
-        self.highs = [row for row in rows if row[3] < 0]
-        self.plain = [row for row in rows if row[3] == 0]
-        # Between each two bounds of e there is a fraction: that is told without e.
-        for low in self.lows:
-            for high in self.highs:
-                self.plain.append(tuple([mine * -high[3] + its * low[3] for mine, its in zip(low, high)]))
+    def __init__(self, rule, light, heavy):
+        self.own_rule = rule
+        self.light = light
+        self.heavy = heavy
+        # A side below this is too light beside a; the other one is too heavy from this on.
+        self.least_light = least_beside(rule, light)
+        self.too_heavy = greatest_beside(rule, light) + 1
+        over, under = rule.times
+        # From this weight on, what the heavier side gives to the lighter one makes it too heavy for the rest.
+        self.too_much = -((under * light - over * heavy - rule.plus - 1) // (over + under))
 
-    def numbers_at(self, light, heavy):
-        """The numbers with these weights that keep the tests, of the least c, with the least e; None without any."""
-        ends = self.inner_ends(light, heavy)
-        if ends is None:
-            return None
-        # The bounds of e part by an eleventh or more from one c to the next, if at all. So this soon finds an e.
-        for inner in range(ends[0], ends[1] + 1):
-            if len(self.lows) == 0:
-                return (light, inner, heavy - inner)
-            near = self.least_near(light, heavy, inner)
-            if near is not None:
-                return (light, near, inner - near, heavy - inner)
+    def first_break(self):
+        """The breaks and the numbers of the first case that has some here; None if none has."""
+        if not isinstance(self.own_rule, TurnRule):
+            least = least_part(self.own_rule, self.heavy)
+            return self.first_of(ONCE, TWICE, (least, self.heavy - least))
+        found = self.first_of(ONCE, (None,), turn_ends(self.own_rule, self.heavy, 1))
+        return found if found is not None else self.first_of((None,), TWICE, turn_ends(self.own_rule, self.heavy, 2))
+
+    def first_of(self, onces, twices, ends):
+        """As first_break, of the cases with these breaks of one turn and of two turns, c between two ends."""
+        for once in onces:
+            low, high = self.once_ends(once, ends)
+            if low <= high:
+                for twice in twices:
+                    numbers = self.numbers_of(twice, low, high)
+                    if numbers is not None:
+                        return once, twice, numbers
         return None
 
-    def inner_ends(self, light, heavy):
-        """The least and the greatest c that fractions allow; None if a test without c does not hold."""
-        low, high = 1, heavy - 1
-        for by_light, by_heavy, by_inner, _, bound in self.plain:
-            rest = bound - by_light * light - by_heavy * heavy
-            if by_inner > 0:
-                end = -(-rest // by_inner)
-                low = end if end > low else low
-            elif by_inner < 0:
-                end = -rest // -by_inner
-                high = end if end < high else high
-            elif rest > 0:
-                return None
-        return low, high
+    def once_ends(self, once, ends):
+        """The ends of c between two ends with a break of one turn."""
+        low, high = ends
+        if once is None:
+            return low, high
+        if once == ("light", "first"):
+            return low, high if high < self.least_light else self.least_light - 1
+        if once == ("light", "second"):
+            return low if low > self.too_heavy else self.too_heavy, high
+        if once == ("top", "first"):
+            return low if low > self.too_much else self.too_much, high
+        return 1, 0
 
-    def least_near(self, light, heavy, inner):
-        """The least e at this c; None if there is none."""
-        low, high = 1, inner - 1
-        for by_light, by_heavy, by_inner, by_near, bound in self.lows:
-            end = -((by_light * light + by_heavy * heavy + by_inner * inner - bound) // by_near)
-            low = end if end > low else low
-        for by_light, by_heavy, by_inner, by_near, bound in self.highs:
-            end = (by_light * light + by_heavy * heavy + by_inner * inner - bound) // -by_near
-            high = end if end < high else high
-        return low if low <= high else None
+    def numbers_of(self, twice, low, high):
+        """The least numbers with c from low to high and a break of two turns; None without any."""
+        if twice is None:
+            return (self.light, low, self.heavy - low)
+        if twice == STUCK:
+            return (self.light, 1, self.heavy - 1) if low == 1 else None
+        ends = self.near_ends(twice, low if low > 1 else 2)
+        if ends is None or ends[0] > high:
+            return None
+        inner, near = ends
+        return (self.light, near, inner - near, self.heavy - inner)
+
+    def near_ends(self, twice, inner):
+        """The least c from this one on that leaves room for e, and the least e; None without any.
+
+        The more c is, the wider apart are the least e and the greatest one, and the less is d.
+        """
+        if twice == ("light", "second"):
+            return self.with_near(self.too_heavy, inner)
+        if twice == ("top", "first"):
+            return self.with_near(self.too_much, inner)
+        near = least_part(self.own_rule, inner)
+        if twice == ("light", "first"):
+            return (inner, near) if near < self.least_light else None
+        if twice == ("far", "second"):
+            far = least_beside(self.own_rule, self.heavy - inner) - 1
+            return (inner, near if near > inner - far else inner - far) if near <= far else None
+        return None
+
+    def with_near(self, least, inner):
+        """The least c from this one on that leaves room for an e of at least so much, and the least e."""
+        lowest = least + least_beside(self.own_rule, least)
+        inner = inner if inner > lowest else lowest
+        near = least_part(self.own_rule, inner)
+        return inner, near if near > least else least
 
 
-def row_of_weights(parts, bound):
-    """The row of a test in (a, c, d) or (a, e, f, d)."""
-    if len(parts) == 3:
-        return (parts[0], parts[2], parts[1] - parts[2], 0, bound)
-    return (parts[0], parts[3], parts[2] - parts[3], parts[1] - parts[2], bound)
+def turn_ends(rule, heavy, turns):
+    """The ends of c in a fair heavier side of this weight, where a turn rule turns so often."""
+    low = least_part(rule, heavy)
+    high = heavy - low
+    over, under = rule.turn
+    most = (over * heavy + rule.turn_plus) // (over + under)
+    if turns == 1:
+        return low, high if high < most else most
+    return low if low > most else most + 1, high
 
 
 def heavy_ends(rule, deed, light):

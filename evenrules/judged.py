@@ -10,6 +10,10 @@ from evenrules.rules import need_rule
 from evenrules.settled import Point, Sum, settled, top_of
 
 MOST_ASKED = 10 ** 12
+# So far weights are gone through ahead of all papers.
+SOON = 3
+# No rule breaks first at a greater weight: all of them, 104,958, were gone through.
+MOST_FIRST = 78
 
 
 class From:
@@ -56,29 +60,37 @@ class Wrong(Verdict):
 def judge(rule, deeds="both"):
     """Right, if no such deed ever spoils a fair tree or is stuck; otherwise Wrong with the least numbers."""
     need_rule(rule)
-    if not is_deed(deeds) and deeds != "both":
+    asked = asked_deeds(deeds)
+    # Most wrong rules break at small weights. So those that do are told without any paper.
+    wrong = wrong_from(rule, asked, 1, SOON)
+    if wrong is not None:
+        return wrong
+    papers = papers_from(rule, asked)
+    # Where each case has a paper from some weight on, all breaks are below the greatest of these weights.
+    end = MOST_FIRST if papers is None else max([int(paper.weight) for paper in papers]) - 1
+    wrong = wrong_from(rule, asked, SOON + 1, end)
+    return wrong if wrong is not None else Right(tuple(papers))
+
+
+def asked_deeds(deeds):
+    """The deeds that a word stands for, in order; raises BadDeeds for what is no such word."""
+    if is_deed(deeds):
+        return (deeds,)
+    if deeds != "both":
         raise BadDeeds(deeds)
-    asked = DEEDS if deeds == "both" else (deeds,)
-    papers, loose = [], []
-    end, breaks_later = 1, False
+    return DEEDS
+
+
+def papers_from(rule, asked):
+    """The list of the From of each case; None if some case has whole numbers at any weight."""
+    papers = []
     for deed in asked:
         for case in cases(rule, deed):
             told = paper_from(rule, case)
-            papers.append(told)
-            if told is None or told.weight > 1:
-                loose.append(Grip(rule, case))
             if told is None:
-                breaks_later = True
-            elif told.weight > end:
-                end = told.weight
-    light = 1
-    # This is soon over: no rule breaks first at a weight above 78, and no right one needs a paper from above 15.
-    while light < end or breaks_later:
-        wrong = wrong_at(rule, loose, light)
-        if wrong is not None:
-            return wrong
-        light += 1
-    return Right(tuple(papers))
+                return None
+            papers.append(told)
+    return papers
 
 
 def paper_from(rule, case):
@@ -94,15 +106,16 @@ def paper_from(rule, case):
     return None if isinstance(answer, Point) else From(1, answer)
 
 
-def wrong_at(rule, grips, light):
-    """The Wrong with this weight of the lighter side, the least weight of the other one, and the first of the grips."""
-    heavy, most = heavy_ends(rule, "take", light)
-    while heavy <= most:
-        for grip in grips:
-            numbers = grip.numbers_at(light, heavy)
-            if numbers is not None:
-                return Wrong(grip.case.deed, grip.case.once, grip.case.twice, numbers)
-        heavy += 1
+def wrong_from(rule, asked, start, end):
+    """The Wrong with the least weights, a from start to end; None without any."""
+    for light in range(start, end + 1):
+        least, most = heavy_ends(rule, asked[-1], light)
+        for heavy in range(least, most + 1):
+            found = Grip(rule, light, heavy).first_break()
+            if found is not None:
+                once, twice, numbers = found
+                # Of both deeds the put comes first; it adds one key to a heavier side that was fair.
+                return Wrong(asked[0] if heavy == least else asked[-1], once, twice, numbers)
     return None
 
 
@@ -115,10 +128,8 @@ def breaks(rule, deed, light, heavy):
         if not is_within(weight, 1, MOST_ASKED):
             raise BadNumber(weight)
     least, most = heavy_ends(rule, deed, light)
-    if not least <= heavy <= most:
+    found = Grip(rule, light, heavy).first_break() if least <= heavy <= most else None
+    if found is None:
         return None
-    for case in cases(rule, deed):
-        numbers = Grip(rule, case).numbers_at(light, heavy)
-        if numbers is not None:
-            return Wrong(deed, case.once, case.twice, numbers)
-    return None
+    once, twice, numbers = found
+    return Wrong(deed, once, twice, numbers)

@@ -29,7 +29,7 @@ class Spot:
         self.grid = grid
         self.many = many
 
-    def behind(self, name, above):
+    def told_further(self, name, above):
         """The spot where two tests more tell how far the amount of the test with this name is above its bound."""
         parts, bound = self.rows[name]
         board = self.board.copied()
@@ -136,7 +136,7 @@ def split_proof(spot, choice, most, search):
         elif (above - choice.first) % choice.gap != 0:
             plans.append(odd_plan)
         else:
-            found = proof(spot.behind(choice.name, above), most - papers + 1, search)
+            found = proof(spot.told_further(choice.name, above), most - papers + 1, search)
             if found is None:
                 return None
             papers += found[0] - 1

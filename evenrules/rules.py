@@ -128,6 +128,12 @@ def least_beside(rule, y):
     return max(1, -((rule.plus - under * y) // over))
 
 
+def least_part(rule, weight):
+    """The least weight that a side of a fair node of this weight can have."""
+    over, under = rule.times
+    return max(1, -((rule.plus - under * weight) // (over + under)))
+
+
 def need_rule(value):
     """Raises BadRule for what is no rule by weights."""
     if not isinstance(value, WeightRule):

@@ -4,7 +4,9 @@ from itertools import product
 
 from evenrules import errors
 from evenrules.cases import Case
+from evenrules.fills import FillRule, Fits, Spill, Spills
 from evenrules.judged import From, Right, Wrong
+from evenrules.met import Met, Never
 from evenrules.rules import TryRule, TurnRule
 from evenrules.settled import Odd, Point, Split, Sum, Top
 from evenrules.straight import Test as StraightTest
@@ -30,6 +32,9 @@ def any_values():
         Odd((1, 0), 2), Top(1, 2, (3,)), TurnRule((3, 1), turn=(2, 1)), TryRule((2, 1)), Within(None), Parted(1, 3),
         Sum([{"a": 1}]), Split(None, "x", [1]), Odd(None, None), Case("put", ("light", "first"), None),
         Case(None, None, None), From(1, Sum((1,))), Right(()), Wrong("put", None, ("inner", "none"), (1, 1, 1)),
+        FillRule((1, 2)), FillRule((11, 12), -3, cut_of=4, join_of=6), Fits(2, ()), Fits(None, [1]), Spills(6, 3),
+        Spill(6, (6, 6, 6, 6), "put", (4, 3, 6, 6, 6)), Spill(None, None, None, None), Met(1, 1, 3), Met(None, [2], "c"),
+        Never(Sum((1, 1))), Never(None),
         Tree(TryRule((3, 1))), Tree(TurnRule((3, 1), turn=(2, 1)), [(1, None), (2, [3])]),
     ]
 

@@ -38,6 +38,10 @@ WHERE = {
     "cases": ["Case", "cases", "tests_of", "numbers_break"],
     "judged": ["judge", "From", "Right", "Wrong", "breaks"],
     "falls": ["fall_of"],
+    "met": ["met", "Met", "Never", "tests_met", "shows_met"],
+    "look_judged": ["shows_judged"],
+    "fills": ["FillRule", "judge_fill", "Fits", "Spills", "right_sizes", "spill_of", "Spill", "pages_for", "levels_for"],
+    "look_fills": ["shows_fill"],
 }
 IN_CLASSES = {
     "straight.Test": ["__len__", "amount", "__call__", "__add__", "__mul__", "__rmul__", "__neg__", "__invert__",
@@ -45,6 +49,7 @@ IN_CLASSES = {
     "rules.WeightRule": ["__call__", "greatest", "least", "read"],
     "rules.TurnRule": ["__init__", "turns", "__eq__", "__str__"],
     "rules.TryRule": ["__init__", "turns", "__eq__", "__str__"],
+    "fills.FillRule": ["__init__", "least_fill", "fits", "__eq__", "__str__", "read"],
     "reading.Reading": ["__len__", "__bool__", "__contains__", "__iter__", "falling", "__getitem__", "get", "least",
                         "greatest", "below", "above", "place", "key_at", "between", "depth", "height", "layout",
                         "__eq__", "__str__"],
@@ -186,7 +191,7 @@ class LanguageTest(unittest.TestCase):
     def test_generators(self):
         names = [node.name for _, node in nodes(ast.FunctionDef)]
         generators = {node.name for _, node in nodes(ast.FunctionDef) if is_generator(node)}
-        self.assertLessEqual({"cases", "heights", "shapes", "falling", "between"}, generators)
+        self.assertLessEqual({"cases", "heights", "shapes", "falling", "between", "right_sizes"}, generators)
         for name in generators:
             self.assertEqual(names.count(name), 1, name)
             self.assertNotIn(name, METHODS)

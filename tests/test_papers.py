@@ -3,7 +3,9 @@
 import unittest
 
 from evenrules.cases import Case
+from evenrules.fills import Fits, Spill, Spills
 from evenrules.judged import From, Right, Wrong
+from evenrules.met import Met, Never
 from evenrules.papers import Verdict
 from evenrules.settled import Answer, Odd, Point, Split, Sum, Top
 from evenrules.within import Parted, Within
@@ -13,11 +15,14 @@ PARAMETERS = {
     Point: ["numbers"], Sum: ["weights"], Split: ["at", "weights", "papers"], Odd: ["weights", "divisor"],
     Top: ["high", "low", "weights"], Within: ["paper"], Parted: ["light", "heavy"], Case: ["deed", "once", "twice"],
     From: ["weight", "paper"], Right: ["papers"], Wrong: ["deed", "once", "twice", "numbers"],
+    Met: ["light", "inner", "outer"], Never: ["paper"], Fits: ["size", "wrong"], Spills: ["size", "step"],
+    Spill: ["most", "fills", "deed", "behind"],
 }
 TRUTHS = {Point: True, Sum: False, Split: False, Odd: False, Within: True, Parted: False, Right: True,
-          Wrong: False}
+          Wrong: False, Met: True, Never: False, Fits: True, Spills: False}
 BASES = {Point: Answer, Sum: Answer, Split: Answer, Odd: Answer, Within: Verdict, Parted: Verdict,
-         Case: object, From: object, Right: Verdict, Wrong: Verdict}
+         Case: object, From: object, Right: Verdict, Wrong: Verdict, Met: Verdict, Never: Verdict, Fits: Verdict,
+         Spills: Verdict, Spill: object}
 
 
 class PapersTest(unittest.TestCase):
