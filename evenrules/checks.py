@@ -1,6 +1,6 @@
 """What integers, keys and names are, asked of any values."""
 
-from evenrules.errors import BadKey, BadName
+from evenrules.errors import BadKey, BadName, BadOther
 
 KEY_BOUND = 10 ** 30
 NAME_LENGTH = 8
@@ -39,3 +39,12 @@ def need_name(value):
     """Raises BadName for what is no name."""
     if not is_name(value):
         raise BadName(value)
+
+
+def need_pairs(items):
+    """Raises BadOther for what is no list or tuple of pairs."""
+    if not isinstance(items, (list, tuple)):
+        raise BadOther("items")
+    for item in items:
+        if not isinstance(item, tuple) or len(item) != 2:
+            raise BadOther("items")

@@ -41,12 +41,10 @@ class WeightRule(Rule):
         if not isinstance(text, str):
             raise BadText(0, 0)
         words = text.split(" ")
-        wrong = wrong_word(words)
+        wrong = wrong_rule_word(words)
         if wrong is not None:
             raise BadText(0, wrong)
         numbers = [word_value(word) for word in words[1:]]
-        if not has_halves(numbers[0], numbers[1]):
-            raise BadText(0, 1)
         if words[0] == "try":
             return TryRule(numbers[0], numbers[1])
         return TurnRule(numbers[0], numbers[1], turn=numbers[2], turn_plus=numbers[3])
@@ -189,15 +187,20 @@ def need_halves(times, plus):
         raise NoHalves(3)
 
 
-def wrong_word(words):
-    """The index of the first word that cannot stand in the text of a rule, or lacks; None if it is the text of one."""
-    if words[0] not in WORDS:
+def wrong_rule_word(words):
+    """The index of the first word that cannot stand in the text of a rule, or lacks; None if it is the text of one.
+
+    Where all words can stand, but the rule has no halves, it is that of the times.
+    """
+    if len(words) == 0 or words[0] not in WORDS:
         return 0
     kinds = WORDS[words[0]]
     for at, kind in enumerate(kinds, start=1):
         if at == len(words) or not can_stand(kind, word_value(words[at])):
             return at
-    return len(kinds) + 1 if len(words) > len(kinds) + 1 else None
+    if len(words) > len(kinds) + 1:
+        return len(kinds) + 1
+    return None if has_halves(word_value(words[1]), word_value(words[2])) else 1
 
 
 def word_value(word):

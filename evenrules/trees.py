@@ -1,9 +1,10 @@
 """Live trees: they change by deeds under a rule that can be exchanged."""
 
-from evenrules.checks import need_key
+from evenrules.checks import need_key, need_pairs
 from evenrules.errors import BadOther, NoKey, Taken, TooMany
 from evenrules.parts import Parts
 from evenrules.rules import need_rule
+from evenrules.saving import Saved
 from evenrules.states import (State, entries_of, halves_state, under_rule, unfair_keys, with_entries, with_entry,
                               without_entry)
 
@@ -103,20 +104,3 @@ class Tree(Parts):
     def twin(self):
         """A tree with the same rule and layout that goes its own way."""
         return Tree(self._state.own_rule, self._state)
-
-
-class Saved:
-    """The state of a tree when a block began, and what was saved for the block around it."""
-
-    def __init__(self, state, before):
-        self.state = state
-        self.before = before
-
-
-def need_pairs(items):
-    """Raises BadOther for what is no list or tuple of pairs."""
-    if not isinstance(items, (list, tuple)):
-        raise BadOther("items")
-    for item in items:
-        if not isinstance(item, tuple) or len(item) != 2:
-            raise BadOther("items")

@@ -4,11 +4,14 @@ from itertools import product
 
 from evenrules import errors
 from evenrules.cases import Case
+from evenrules.desk import Desk
 from evenrules.fills import FillRule, Fits, Spill, Spills
 from evenrules.judged import From, Right, Wrong
 from evenrules.met import Met, Never
+from evenrules.rows import Row
 from evenrules.rules import TryRule, TurnRule
 from evenrules.settled import Odd, Point, Split, Sum, Top
+from evenrules.shelves import Shelf
 from evenrules.straight import Test as StraightTest
 from evenrules.trees import Tree
 from evenrules.within import Parted, Within
@@ -35,6 +38,8 @@ def any_values():
         FillRule((1, 2)), FillRule((11, 12), -3, cut_of=4, join_of=6), Fits(2, ()), Fits(None, [1]), Spills(6, 3),
         Spill(6, (6, 6, 6, 6), "put", (4, 3, 6, 6, 6)), Spill(None, None, None, None), Met(1, 1, 3), Met(None, [2], "c"),
         Never(Sum((1, 1))), Never(None),
+        Row(FillRule((1, 2)), 4), Row(FillRule((1, 2)), 4, (3, 3, 4)), Shelf(FillRule((1, 2)), 4),
+        Shelf(FillRule((1, 2)), 4, [(1, None), (2, [3])]), Desk(),
         Tree(TryRule((3, 1))), Tree(TurnRule((3, 1), turn=(2, 1)), [(1, None), (2, [3])]),
     ]
 

@@ -42,6 +42,11 @@ WHERE = {
     "look_judged": ["shows_judged"],
     "fills": ["FillRule", "judge_fill", "Fits", "Spills", "right_sizes", "spill_of", "Spill", "pages_for", "levels_for"],
     "look_fills": ["shows_fill"],
+    "rows": ["Row"],
+    "shelves": ["Shelf"],
+    "texts": ["tree_text", "shelf_text"],
+    "reader": ["read_tree", "read_shelf"],
+    "desk": ["Desk"],
 }
 IN_CLASSES = {
     "straight.Test": ["__len__", "amount", "__call__", "__add__", "__mul__", "__rmul__", "__neg__", "__invert__",
@@ -49,6 +54,11 @@ IN_CLASSES = {
     "rules.WeightRule": ["__call__", "greatest", "least", "read"],
     "rules.TurnRule": ["__init__", "turns", "__eq__", "__str__"],
     "rules.TryRule": ["__init__", "turns", "__eq__", "__str__"],
+    "rows.Row": ["__init__", "__len__", "__iter__", "total", "is_young", "keeps", "page_of", "put", "take", "__eq__"],
+    "shelves.Shelf": ["__init__", "built", "put", "__setitem__", "drop", "__getitem__", "get", "__contains__", "__len__",
+                      "__bool__", "__iter__", "stretch", "pages", "levels", "keeps", "page_of", "__ior__", "twin",
+                      "trial", "tried", "__eq__"],
+    "desk.Desk": ["__init__", "__call__", "say", "run", "names", "__len__"],
     "fills.FillRule": ["__init__", "least_fill", "fits", "__eq__", "__str__", "read"],
     "reading.Reading": ["__len__", "__bool__", "__contains__", "__iter__", "falling", "__getitem__", "get", "least",
                         "greatest", "below", "above", "place", "key_at", "between", "depth", "height", "layout",
@@ -156,11 +166,16 @@ class LanguageTest(unittest.TestCase):
 
     def test_module_level_values_are_plain(self):
         for name, _, tree in trees():
+            functions = set()
             for node in tree.body:
+                if isinstance(node, ast.FunctionDef):
+                    functions.add(node.name)
                 if isinstance(node, ast.Assign):
                     self.assertEqual(len(node.targets), 1)
                     for inner in ast.walk(node.value):
-                        self.assertNotIsInstance(inner, (ast.Name, ast.Call, ast.Attribute, ast.ListComp), name)
+                        self.assertNotIsInstance(inner, (ast.Call, ast.Attribute, ast.ListComp), name)
+                        # The values of a table may be functions that stand above it.
+                        self.assertTrue(not isinstance(inner, ast.Name) or inner.id in functions, name)
 
     def test_methods_of_values(self):
         own = {node.name for _, node in nodes(ast.FunctionDef)}
@@ -191,7 +206,7 @@ class LanguageTest(unittest.TestCase):
     def test_generators(self):
         names = [node.name for _, node in nodes(ast.FunctionDef)]
         generators = {node.name for _, node in nodes(ast.FunctionDef) if is_generator(node)}
-        self.assertLessEqual({"cases", "heights", "shapes", "falling", "between", "right_sizes"}, generators)
+        self.assertLessEqual({"cases", "heights", "shapes", "falling", "between", "right_sizes", "stretch"}, generators)
         for name in generators:
             self.assertEqual(names.count(name), 1, name)
             self.assertNotIn(name, METHODS)
