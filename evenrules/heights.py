@@ -2,8 +2,8 @@
 
 from evenrules.checks import is_within
 from evenrules.errors import BadNumber, BadOther
-from evenrules.rules import are_fair, least_beside, need_rule
-from evenrules.shapes import halves_of, joints, spread, weights_of
+from evenrules.rules import least_beside, need_rule
+from evenrules.shapes import are_joints_fair, halves_of, joints_of, weights_of
 
 MOST_HEIGHT = 1000
 MOST_KEYS = 10 ** 30
@@ -70,14 +70,14 @@ def tall_shape(rule, keys):
 
 def keys_of(shape):
     """The number of keys of the trees of a shape."""
-    return len(need_parts(shape)) // 2
+    return len(need_joints(shape))
 
 
 def height_of(shape):
     """The height of the trees of a shape."""
-    parts = need_parts(shape)
-    found = [0] * len(parts)
-    for place, side in joints(parts):
+    joints = need_joints(shape)
+    found = [0] * (2 * len(joints) + 1)
+    for place, side in joints[::-1]:
         left, right = found[side], found[side + 1]
         found[place] = 1 + (left if left > right else right)
     return found[0]
@@ -86,11 +86,8 @@ def height_of(shape):
 def is_fair(rule, shape):
     """Whether any value is a shape, and fair."""
     need_rule(rule)
-    parts = spread(shape)
-    if parts is None:
-        return False
-    weights = weights_of(parts)
-    return all([are_fair(rule, weights[side], weights[side + 1]) for _, side in joints(parts)])
+    joints = joints_of(shape)
+    return joints is not None and are_joints_fair(rule, joints, weights_of(joints))
 
 
 def need_number(value, most):
@@ -99,12 +96,12 @@ def need_number(value, most):
         raise BadNumber(value)
 
 
-def need_parts(shape):
-    """The parts of a shape; raises BadOther for what is none."""
-    parts = spread(shape)
-    if parts is None:
+def need_joints(shape):
+    """The joints of a shape; raises BadOther for what is none."""
+    joints = joints_of(shape)
+    if joints is None:
         raise BadOther("shape")
-    return parts
+    return joints
 
 
 def least_weights(rule, most):

@@ -1,36 +1,46 @@
 """Shapes of trees, gone through without recursion, as they can be of any height."""
 
 
-def spread(shape):
-    """All shapes in a shape, itself first: those of both sides of each, in this order; None for what is no shape."""
+def joints_of(shape):
+    """The joints of a shape, from the top: for each shape in it with sides its place, and that of its left side.
+
+    The right side has the place behind; the shape itself has the place 0. None for what is no shape.
+    """
     parts = [shape]
+    found = []
     at = 0
     while at < len(parts):
         part = parts[at]
-        if not isinstance(part, tuple) or len(part) not in (0, 2):
+        if not isinstance(part, tuple):
             return None
-        parts.extend(list(part))
+        if len(part) == 2:
+            left, right = part
+            found.append((at, len(parts)))
+            parts.append(left)
+            parts.append(right)
+        elif len(part) > 0:
+            return None
         at += 1
-    return parts
-
-
-def joints(parts):
-    """For each part that is no empty shape, from the last one back: its place, and the place of its left side."""
-    side = len(parts)
-    found = []
-    for place in range(len(parts) - 1, -1, -1):
-        if len(parts[place]) > 0:
-            side -= 2
-            found.append((place, side))
     return found
 
 
-def weights_of(parts):
-    """The weights of parts."""
-    weights = [1] * len(parts)
-    for place, side in joints(parts):
+def weights_of(joints):
+    """The weights at all places of a shape with these joints."""
+    weights = [1] * (2 * len(joints) + 1)
+    for place, side in joints[::-1]:
         weights[place] = weights[side] + weights[side + 1]
     return weights
+
+
+def are_joints_fair(rule, joints, weights):
+    """Whether the weights at the sides of all joints are fair."""
+    over, under = rule.times
+    plus = rule.plus
+    for _, side in joints:
+        one, other = weights[side], weights[side + 1]
+        if under * one > over * other + plus or under * other > over * one + plus:
+            return False
+    return True
 
 
 def halves_of(many):

@@ -88,6 +88,39 @@ class CountsTest(unittest.TestCase):
                 for shape in (halves_shape(keys), tall_shape(rule, keys)):
                     self.assertEqual(shape_at(rule, keys, place_of(rule, shape)), shape)
 
+    def test_two_hundred_keys(self):
+        rule = TryRule((6, 1), 6)
+        first, half, tall = shape_at(rule, 200, 0), halves_shape(200), tall_shape(rule, 200)
+        self.assertEqual((keys_of(first), is_fair(rule, first), place_of(rule, first)), (200, True, 0))
+        self.assertEqual((first, half, tall), (self.told_first(rule, 201), shape_at(rule, 200, place_of(rule, half)),
+                                               shape_at(rule, 200, place_of(rule, tall))))
+        many = told_counts(rule, 200)
+        self.assertEqual((counts(rule, 200), self.told_place(rule, many, half), self.told_place(rule, many, tall)),
+                         (many, place_of(rule, half), place_of(rule, tall)))
+        assert_raises(self, BadNumber(many[200]), shape_at, rule, 200, many[200])
+        for other in RULES:
+            many = told_counts(other, 200)
+            for keys in (198, 199, 200):
+                for shape in (halves_shape(keys), tall_shape(other, keys), shape_at(other, keys, many[keys] - 1),
+                              shape_at(other, keys, many[keys] // 7)):
+                    place = place_of(other, shape)
+                    self.assertEqual((shape_at(other, keys, place), self.told_place(other, many, shape)), (shape, place))
+
+    def told_first(self, rule, weight):
+        """The first fair shape of a weight: the left side is as light as it can be, and so in all sides."""
+        if weight == 1:
+            return ()
+        left, right = fair_splits(rule, weight)[0]
+        return (self.told_first(rule, left), self.told_first(rule, right))
+
+    def told_place(self, rule, many, shape):
+        """The index of a shape: those with a lighter left side, then those with a left side that stands ahead."""
+        if shape == ():
+            return 0
+        left, right = keys_of(shape[0]) + 1, keys_of(shape[1]) + 1
+        ahead = sum(many[x - 1] * many[y - 1] for x, y in fair_splits(rule, left + right) if x < left)
+        return ahead + self.told_place(rule, many, shape[0]) * many[right - 1] + self.told_place(rule, many, shape[1])
+
     def test_wrong_rules_and_numbers(self):
         rule = RULES[0]
         for value in [*any_values(), 201, -1, True]:
