@@ -43,20 +43,45 @@ class Board:
                 row = [own + part * its for own, its in zip(row, self.row_of(-1 - at))]
         self.rows[name] = row
 
+    def begin(self, rows, names):
+        """Enters tests of which the first ones tell each unknown's least number; these come to the sides at once."""
+        self.sides = list(names[:self.many])
+        least = [rows[name][1] for name in self.sides]
+        for name in names[self.many:]:
+            parts, bound = rows[name]
+            own = -bound
+            for part, number in zip(parts, least):
+                own = own + part * number
+            self.rows[name] = [own, *parts]
+        for place, name in enumerate(self.sides):
+            self.rows[-1 - place] = [least[place], *rows[name][0]]
+
+    def forget_unknowns(self, at):
+        """Takes away the rows of all unknowns but the one with this index; they tell nothing to the others."""
+        for place in range(self.many):
+            if place != at and -1 - place in self.rows:
+                del self.rows[-1 - place]
+
     def swap(self, name, place):
         """The variable of a row and the side at a place, of which the row has a share, change their roles."""
         row = self.rows.pop(name)
-        scale, sign = self.scale, 1 if row[place + 1] > 0 else -1
-        row = [share * sign for share in row]
-        lead = row[place + 1]
-        for other, old in list(self.rows.items()):
-            factor = old[place + 1]
+        spot, scale, sign = place + 1, self.scale, 1
+        if row[spot] < 0:
+            row, sign = [-share for share in row], -1
+        lead = row[spot]
+        for other in list(self.rows):
+            old = self.rows[other]
+            factor = old[spot]
+            if factor == 0:
+                if lead != scale:
+                    self.rows[other] = [own * lead // scale for own in old]
+                continue
             # The division leaves nothing: all numbers of a board are determinants of the parts and bounds.
             new = [(own * lead - factor * its) // scale for own, its in zip(old, row)]
-            new[place + 1] = factor * sign
+            new[spot] = factor * sign
             self.rows[other] = new
         turned = [-share for share in row]
-        turned[place + 1] = scale * sign
+        turned[spot] = scale * sign
         self.rows[self.sides[place]] = turned
         self.sides[place] = name
         self.scale = lead
@@ -92,7 +117,8 @@ class Board:
 
     def lift(self, name):
         """Whether a slack can come to 0 or more while none that is there falls below 0; goes to such a corner."""
-        while self.row_of(name)[0] < 0:
+        # A variable at the sides is 0 already.
+        while name in self.rows and self.rows[name][0] < 0:
             row = self.rows[name]
             place = self.rising(row)
             if place is None:
@@ -174,10 +200,24 @@ class Board:
 def board_of(rows, names, many):
     """The board of the tests with these names: rows are pairs of parts and bound."""
     board = Board(many)
+    if begins_with_units(rows, names, many):
+        board.begin(rows, names)
+        return board
     for name in names:
         board.enter(name, rows[name][0], rows[name][1])
     board.free_unknowns()
     return board
+
+
+def begins_with_units(rows, names, many):
+    """Whether the first tests are those that each unknown is at least a bound, in the order of the unknowns."""
+    if len(names) < many:
+        return False
+    for place in range(many):
+        parts = rows[names[place]][0]
+        if parts[place] != 1 or parts.count(0) != many - 1:
+            return False
+    return True
 
 
 def settle(board, names, many):

@@ -1,13 +1,13 @@
 """Rules by weights, judged for all fair trees and all rows of deeds."""
 
-from evenrules.cases import DEEDS, cases, is_deed, tests_of
+from evenrules.cases import DEEDS, case_rows, cases, is_deed, tests_of
 from evenrules.checks import is_within
 from evenrules.errors import BadDeeds, BadNumber
 from evenrules.grips import Grip, heavy_ends
 from evenrules.keeping import kept
 from evenrules.papers import Verdict
 from evenrules.rules import need_rule
-from evenrules.settled import Point, Sum, settled, top_of
+from evenrules.settled import Point, Sum, settled, top_of_rows
 
 MOST_ASKED = 10 ** 12
 # So far weights are gone through ahead of all papers.
@@ -95,13 +95,14 @@ def papers_from(rule, asked):
 
 def paper_from(rule, case):
     """The From of a case, but that its tests may have whole numbers with lesser weights; None if it has none."""
-    tests = tests_of(rule, case)
-    top = top_of(tests, 0)
+    rows = case_rows(rule, case)
+    top = top_of_rows(rows, 0, len(rows[0][0]))
     if isinstance(top, Sum):
         return From(1, Sum((*top.weights, 0)))
     if top is not None:
         return From(top.high // top.low + 1, Sum((*top.weights, top.low)))
     # Fractions keep the tests at any weight. If whole numbers do not, a paper tells so for all weights at once.
+    tests = tests_of(rule, case)
     answer = settled((*tests, tests[0]))
     return None if isinstance(answer, Point) else From(1, answer)
 

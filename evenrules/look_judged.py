@@ -1,11 +1,10 @@
 """The looker for verdicts of `judge`."""
 
-from evenrules.cases import Case, cases, is_case, numbers_break, tests_of
+from evenrules.cases import Case, case_rows, cases, is_case, numbers_break
 from evenrules.checks import is_within
 from evenrules.judged import MOST_FIRST, From, Right, Wrong, asked_deeds, wrong_from
-from evenrules.look_settled import shows_none
+from evenrules.look_settled import is_paper
 from evenrules.rules import need_rule
-from evenrules.straight import Test
 
 MOST_FROM = 20000
 
@@ -29,7 +28,7 @@ def shows_right(rule, asked, papers):
     for case, paper in zip(told, papers):
         if not isinstance(paper, From) or not is_within(paper.weight, 1, MOST_FROM):
             return False
-        if not shows_none(tests_from(rule, case, paper.weight), paper.paper):
+        if not is_paper(rows_from(rule, case, paper.weight), paper.paper):
             return False
         if paper.weight > end:
             end = paper.weight
@@ -37,7 +36,8 @@ def shows_right(rule, asked, papers):
     return wrong_from(rule, asked, 1, end - 1 if end <= MOST_FIRST else MOST_FIRST) is None
 
 
-def tests_from(rule, case, weight):
-    """The tests of a case, with the test behind them that the lighter side weighs at least so much."""
-    tests = tests_of(rule, case)
-    return (*tests, Test([1] + [0] * (len(tests[0]) - 1), weight))
+def rows_from(rule, case, weight):
+    """The pairs of parts and bound of a case, and behind them that the lighter side weighs at least so much."""
+    rows = case_rows(rule, case)
+    rows.append((tuple([1] + [0] * (len(rows[0][0]) - 1)), weight))
+    return rows

@@ -3,7 +3,7 @@
 from evenrules.checks import is_integer, is_within
 from evenrules.papers import MOST_PAPERS
 from evenrules.settled import Answer, Odd, Split, Sum
-from evenrules.straight import need_tests
+from evenrules.straight import need_tests, rows_of
 
 MOST_DEPTH = 20
 
@@ -54,8 +54,13 @@ class Level:
 def shows_none(tests, value):
     """Whether any value is a Sum, a Split or an Odd that is right for the tests."""
     need_tests(tests)
-    columns = [[test.parts[at] for test in tests] for at in range(len(tests[0].parts))]
-    waiting = [(value, Level(columns, [test.bound for test in tests], [0] * len(tests), 0))]
+    return is_paper(rows_of(tests), value)
+
+
+def is_paper(rows, value):
+    """Whether any value is a Sum, a Split or an Odd that is right for pairs of parts and bound."""
+    columns = [[parts[at] for parts, _ in rows] for at in range(len(rows[0][0]))]
+    waiting = [(value, Level(columns, [bound for _, bound in rows], [0] * len(rows), 0))]
     seen = 1
     while waiting:
         paper, level = waiting.pop()

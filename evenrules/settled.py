@@ -144,11 +144,17 @@ def paper_of(plan):
 def top_of(tests, at):
     """How great an unknown is: a Top, None if it has no greatest one, or a Sum if no fractions keep the tests."""
     need_tests(tests)
-    rows, many = rows_of(tests), len(tests[0].parts)
+    many = len(tests[0].parts)
     if not is_within(at, 0, many - 1):
         raise BadNumber(at)
+    return top_of_rows(rows_of(tests), at, many)
+
+
+def top_of_rows(rows, at, many):
+    """As top_of, for pairs of parts and bound in so many unknowns."""
     names = list(range(len(rows)))
     board = board_of(rows, names, many)
+    board.forget_unknowns(at)
     weights = settle(board, names, len(rows))
     if weights is not None:
         return Sum(tuple(lowered(weights)))

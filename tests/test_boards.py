@@ -3,7 +3,7 @@
 import random
 import unittest
 
-from evenrules.boards import board_of, settle
+from evenrules.boards import Board, board_of, settle
 from evenrules.grids import dot, sorted_out, units, whole_grid
 from evenrules.short import shortened
 from helping import fractions_keep
@@ -69,6 +69,35 @@ class BoardsTest(unittest.TestCase):
             self.check_corner(board, rows)
             for name in names:
                 self.check_ends(board, rows, name)
+
+    def test_tests_that_tell_least_numbers_come_to_the_sides_at_once(self):
+        random.seed(24)
+        for _ in range(300):
+            many = random.randint(1, 5)
+            rows = [(tuple(unit), random.randint(-3, 3)) for unit in units(many)]
+            rows += random_rows(many, 9, random.randint(0, 9))
+            names = list(range(len(rows)))
+            board, other = board_of(rows, names, many), Board(many)
+            for name in names:
+                other.enter(name, *rows[name])
+            other.free_unknowns()
+            self.assertEqual((board.sides, board.scale), (names[:many], other.scale))
+            self.assertEqual((other.sides, board.rows), (board.sides, other.rows))
+            # From there on the rows of the other unknowns tell nothing.
+            at = random.randrange(many)
+            board.forget_unknowns(at)
+            self.assertEqual({name for name in board.rows if name < 0}, {-1 - at})
+            self.assertEqual(settle(board, names, len(rows)), settle(other, names, len(rows)))
+            self.assertEqual(board.sides, other.sides)
+            self.assertEqual(board.row_of(-1 - at), other.row_of(-1 - at))
+
+    def test_tests_that_nearly_tell_least_numbers(self):
+        for first in ((2, 0, 0), (1, 1, 0), (0, 1, 0), (-1, 0, 0)):
+            rows = [(first, 1), ((0, 1, 0), 1), ((0, 0, 1), 1), ((1, 1, 1), 7), ((-1, -2, 3), -9)]
+            names = list(range(5))
+            board = board_of(rows, names, 3)
+            self.assertIsNone(settle(board, names, 5))
+            self.check_corner(board, rows)
 
     def test_settled_as_fractions_tell(self):
         random.seed(22)

@@ -128,6 +128,24 @@ class RightTest(unittest.TestCase):
         for rule in some_rules(1, 150):
             self.check_all_deeds(rule)
 
+    def test_the_input_that_took_longest(self):
+        slow = TurnRule((3, 3), 6, turn=(1, 1), turn_plus=-1)
+        near = [TurnRule((3, 3), 6, turn=(1, 1), turn_plus=plus) for plus in (-3, -2, 0, 1)]
+        for rule in [slow, *near, *[TurnRule((3, 3), 5, turn=turn, turn_plus=-1) for turn in ((1, 1), (3, 2), (2, 3))]]:
+            for deeds in ("put", "take", "both"):
+                answer = judge(rule, deeds)
+                if answer:
+                    self.check(rule, deeds, answer)
+                    continue
+                self.assertIs(answer.__class__, Wrong)
+                a, b = answer.numbers[0], sum(answer.numbers[1:])
+                self.assertEqual(told_of(answer), least_break(rule, deeds_of(deeds), a))
+                self.assertEqual(breaks(rule, answer.deed, a, b), answer)
+                case = Case(answer.deed, answer.once, answer.twice)
+                self.assertIs(numbers_break(rule, case, answer.numbers), True)
+            self.check_all_deeds(rule)
+        self.assertEqual([bool(judge(slow, deeds)) for deeds in ("put", "take", "both")], [False] * 3)
+
     def check_all_deeds(self, rule):
         """That the verdicts for puts, takes and both fit together."""
         puts, takes, both = (judge(rule, deeds) for deeds in ("put", "take", "both"))
@@ -215,6 +233,41 @@ class WrongTest(unittest.TestCase):
 
 
 class BreaksTest(unittest.TestCase):
+
+    def test_a_try_rule_with_many_cases(self):
+        rule = TryRule((5, 2), 0)
+        for deed in ("put", "take"):
+            for light in (3, 4):
+                for heavy in range(rule.greatest(light), rule.greatest(light + 1) + 2):
+                    told = [(deed, case.once, case.twice, numbers) for case in cases(rule, deed)
+                            for numbers in self.all_numbers(rule, case, light, heavy)]
+                    answer = breaks(rule, deed, light, heavy)
+                    self.assertEqual(None if answer is None else told_of(answer), told[0] if told else None)
+                    self.assertEqual(first_break(rule, (deed,), light, heavy), told[0] if told else None)
+        for text in ("try 2/1 0", "try 6/1 6", "try 5/1 -3", "try 3/2 5", "try 1/1 3", "turn 5/2 0 1/1 0"):
+            rule = WeightRule.read(text)
+            for deed in ("put", "take"):
+                for light in (3, 4):
+                    for heavy in heavy_weights(rule, light):
+                        told = [(deed, case.once, case.twice, numbers) for case in cases(rule, deed)
+                                for numbers in self.all_numbers(rule, case, light, heavy)]
+                        answer = breaks(rule, deed, light, heavy)
+                        self.assertEqual(None if answer is None else told_of(answer), told[0] if told else None)
+
+    def all_numbers(self, rule, case, light, heavy):
+        """All numbers with these weights that keep the tests of a case, by c, then by e."""
+        tests = tests_of(rule, case)
+        for inner in range(1, heavy):
+            if len(tests[0]) == 3:
+                rows = [(light, inner, heavy - inner)]
+            else:
+                rows = [(light, near, inner - near, heavy - inner) for near in range(1, inner)]
+            for numbers in rows:
+                keeps = all(test(numbers) for test in tests)
+                self.assertIs(numbers_break(rule, case, numbers), keeps)
+                if keeps:
+                    yield numbers
+
 
     def test_all_small_pairs(self):
         for rule in [*some_rules(4, 40), THREE, FOUR, TryRule((2, 1))]:
