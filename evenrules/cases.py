@@ -1,7 +1,6 @@
 """Cases: what a deed can spoil, and the straight tests that tell for which weights it does."""
 
 from evenrules.errors import BadDeeds, BadOther
-from evenrules.grids import dot, moved, units
 from evenrules.keeping import kept
 from evenrules.rules import TurnRule, need_rule
 from evenrules.straight import Test, is_list_of_integers
@@ -12,6 +11,11 @@ ONCE = (("light", "first"), ("light", "second"), ("top", "first"), ("top", "seco
 STUCK = ("inner", "none")
 TWICE = (("inner", "none"), ("light", "first"), ("light", "second"), ("far", "first"), ("far", "second"),
          ("top", "first"), ("top", "second"))
+# The sides of the new nodes, which of the unknowns they have: (a, c, d) behind one turn, or (a, e, f, d).
+SHORT_ONCE = {"light": ((1, 0, 0), (0, 1, 0)), "top": ((1, 1, 0), (0, 0, 1))}
+LONG_ONCE = {"light": ((1, 0, 0, 0), (0, 1, 1, 0)), "top": ((1, 1, 1, 0), (0, 0, 0, 1))}
+LONG_TWICE = {"light": ((1, 0, 0, 0), (0, 1, 0, 0)), "far": ((0, 0, 1, 0), (0, 0, 0, 1)),
+              "top": ((1, 1, 0, 0), (0, 0, 1, 1))}
 
 
 class Case:
@@ -25,33 +29,6 @@ class Case:
     def __eq__(self, other):
         return (isinstance(other, Case) and self.deed == other.deed and self.once == other.once
                 and self.twice == other.twice)
-
-
-class Weights:
-    """The weights that a case tells of, each by its parts of the unknowns."""
-
-    def __init__(self, is_near_told):
-        self.near, self.far = None, None
-        if is_near_told:
-            self.light, self.near, self.far, self.outer = units(4)
-            self.inner = moved(self.near, 1, self.far)
-        else:
-            self.light, self.inner, self.outer = units(3)
-        self.heavy = moved(self.inner, 1, self.outer)
-
-    def of_once(self, node):
-        """The sides of a new node of one turn."""
-        if node == "light":
-            return self.light, self.inner
-        return moved(self.light, 1, self.inner), self.outer
-
-    def of_twice(self, node):
-        """The sides of a new node of two turns."""
-        if node == "light":
-            return self.light, self.near
-        if node == "far":
-            return self.far, self.outer
-        return moved(self.light, 1, self.near), moved(self.far, 1, self.outer)
 
 
 def cases(rule, deed):
@@ -96,59 +73,54 @@ def case_rows(rule, case):
     need_rule(rule)
     if not is_case(rule, case):
         raise BadOther("case")
-    weights = Weights(case.twice is not None and case.twice != STUCK)
-    rows = [(parts, 1) for parts in units(len(weights.light))]
-    rows.extend(balance_rows(rule, case.deed, weights))
-    rows.extend(turn_rows(rule, case, weights))
-    if case.once is not None:
-        rows.append(too_heavy(rule, weights.of_once(case.once[0]), case.once[1]))
-    if case.twice == STUCK:
-        rows.append(([-part for part in weights.inner], -1))
-    elif case.twice is not None:
-        rows.append(too_heavy(rule, weights.of_twice(case.twice[0]), case.twice[1]))
+    once, twice = case.once, case.twice
+    is_short = twice is None or twice == STUCK
+    rows = short_rows(rule, case.deed) if is_short else long_rows(rule, case.deed)
+    if isinstance(rule, TurnRule):
+        rows.append(turn_row(rule, twice is None, is_short))
+    if once is not None:
+        sides = SHORT_ONCE[once[0]] if is_short else LONG_ONCE[once[0]]
+        rows.append(too_heavy(rule, sides, once[1]))
+    if not is_short:
+        rows.append(too_heavy(rule, LONG_TWICE[twice[0]], twice[1]))
+    elif twice is not None:
+        rows.append(((0, -1, 0), -1))
     return rows
 
 
-def balance_rows(rule, deed, weights):
-    """The tests that the sides of the node are not fair, but were, and that those below it are fair."""
+def short_rows(rule, deed):
+    """The tests in (a, c, d) that the sides of a node are not fair, but were, and that those below it are fair."""
     over, under = rule.times
-    gain = under if deed == "put" else over
-    rows = [compared(under, weights.heavy, over, weights.light, rule.plus + 1),
-            compared(over, weights.light, under, weights.heavy, -rule.plus - gain)]
-    rows.extend(fair_rows(rule, weights.inner, weights.outer))
-    if weights.near is not None:
-        rows.extend(fair_rows(rule, weights.near, weights.far))
-    return rows
+    plus = rule.plus
+    return [((1, 0, 0), 1), ((0, 1, 0), 1), ((0, 0, 1), 1), ((-over, under, under), plus + 1),
+            ((over, -under, -under), -plus - (under if deed == "put" else over)),
+            ((0, over, -under), -plus), ((0, -under, over), -plus)]
 
 
-def fair_rows(rule, one, other):
-    """The tests that two weights are fair."""
+def long_rows(rule, deed):
+    """As short_rows, in (a, e, f, d)."""
     over, under = rule.times
-    return [compared(over, one, under, other, -rule.plus), compared(over, other, under, one, -rule.plus)]
+    plus = rule.plus
+    return [((1, 0, 0, 0), 1), ((0, 1, 0, 0), 1), ((0, 0, 1, 0), 1), ((0, 0, 0, 1), 1),
+            ((-over, under, under, under), plus + 1),
+            ((over, -under, -under, -under), -plus - (under if deed == "put" else over)),
+            ((0, over, over, -under), -plus), ((0, -under, -under, over), -plus),
+            ((0, over, -under, 0), -plus), ((0, -under, over, 0), -plus)]
 
 
-def turn_rows(rule, case, weights):
-    """The test that a turn rule turns so often as a case tells; a try rule needs none."""
-    if not isinstance(rule, TurnRule):
-        return []
+def turn_row(rule, is_once, is_short):
+    """The test that a turn rule turns once, or twice."""
     over, under = rule.turn
-    if case.twice is None:
-        return [compared(over, weights.outer, under, weights.inner, -rule.turn_plus)]
-    return [compared(under, weights.inner, over, weights.outer, rule.turn_plus + 1)]
+    if is_once:
+        return (0, -under, over), -rule.turn_plus
+    return (0, under, -over) if is_short else (0, under, under, -over), rule.turn_plus + 1
 
 
 def too_heavy(rule, sides, side):
     """The test that one of both sides of a new node is too heavy."""
     over, under = rule.times
-    first, second = sides
-    if side == "first":
-        return compared(under, first, over, second, rule.plus + 1)
-    return compared(under, second, over, first, rule.plus + 1)
-
-
-def compared(times, one, less, other, bound):
-    """The test that so many times one weight, less so many times another one, is at least a bound."""
-    return [times * mine - less * its for mine, its in zip(one, other)], bound
+    heavy, other = sides if side == "first" else sides[::-1]
+    return tuple([under * mine - over * its for mine, its in zip(heavy, other)]), rule.plus + 1
 
 
 def numbers_break(rule, case, numbers):
@@ -156,4 +128,22 @@ def numbers_break(rule, case, numbers):
     rows = case_rows(rule, case)
     if not isinstance(numbers, tuple) or not is_list_of_integers(numbers) or len(numbers) != len(rows[0][0]):
         return False
-    return all([dot(parts, numbers) >= bound for parts, bound in rows])
+    return keep_long(rows, numbers) if len(numbers) == 4 else keep_short(rows, numbers)
+
+
+def keep_short(rows, numbers):
+    """Whether three numbers keep all rows."""
+    one, two, three = numbers
+    for parts, bound in rows:
+        if parts[0] * one + parts[1] * two + parts[2] * three < bound:
+            return False
+    return True
+
+
+def keep_long(rows, numbers):
+    """Whether four numbers keep all rows."""
+    one, two, three, four = numbers
+    for parts, bound in rows:
+        if parts[0] * one + parts[1] * two + parts[2] * three + parts[3] * four < bound:
+            return False
+    return True

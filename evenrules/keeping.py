@@ -3,12 +3,29 @@
 
 def kept(value):
     """The value, with a copy of each list and each dict in it, however deep it stands."""
+    if not isinstance(value, (list, tuple, dict)):
+        return value
+    if isinstance(value, tuple) and is_flat(value):
+        return value
+    return copied_deep(value)
+
+
+def is_flat(value):
+    """Whether a tuple has no list, no dict and no other tuple in it."""
+    for part in value:
+        if isinstance(part, (list, tuple, dict)):
+            return False
+    return True
+
+
+def copied_deep(value):
+    """A list, a tuple or a dict with copies of all that can be changed in it."""
     things = [value]
     ends = []
     at = 0
     # No recursion: the layout of a tree is as deep as the tree is high.
     while at < len(things):
-        things.extend(parts_of(things[at]))
+        things.extend(list(parts_of(things[at])))
         ends.append(len(things))
         at += 1
     made = list(things)

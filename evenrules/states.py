@@ -37,25 +37,20 @@ def first_from(order, key):
     return low
 
 
-def with_entry(state, key, worth):
-    """The state behind a put."""
-    need_key(key)
-    worths = dict(state.worths)
-    worths[key] = worth
-    if len(worths) == len(state.worths):
-        return State(state.own_rule, state.root, state.order, worths)
-    if len(worths) > MOST_KEYS:
-        raise TooMany("keys", MOST_KEYS)
-    root = with_key(state.own_rule, state.root, key)
-    at = first_from(state.order, key)
-    return State(state.own_rule, root, [*state.order[:at], key, *state.order[at:]], worths)
-
-
 def with_entries(state, entries):
     """The state behind puts of pairs of a key and a value, one by one."""
+    root = state.root
+    order = list(state.order)
+    worths = dict(state.worths)
     for key, worth in entries:
-        state = with_entry(state, key, worth)
-    return state
+        need_key(key)
+        if key not in worths:
+            if len(worths) == MOST_KEYS:
+                raise TooMany("keys", MOST_KEYS)
+            root = with_key(state.own_rule, root, key)
+            order.insert(first_from(order, key), key)
+        worths[key] = worth
+    return State(state.own_rule, root, order, worths)
 
 
 def without_entry(state, key):

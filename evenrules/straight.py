@@ -26,9 +26,14 @@ class Test:
 
     def amount(self, numbers):
         """The parts times the numbers, added."""
-        if not is_list_of_integers(numbers) or len(numbers) != len(self.parts):
+        if not isinstance(numbers, (list, tuple)) or len(numbers) != len(self.parts):
             raise BadNumber(numbers)
-        return sum([part * number for part, number in zip(self.parts, numbers)])
+        total = 0
+        for part, number in zip(self.parts, numbers):
+            if not isinstance(number, int) or isinstance(number, bool):
+                raise BadNumber(numbers)
+            total = total + part * number
+        return total
 
     def __call__(self, numbers):
         return self.amount(numbers) >= self.bound
@@ -87,7 +92,12 @@ class Test:
 
 def is_list_of_integers(value):
     """Whether a value is a list or a tuple of integers."""
-    return isinstance(value, (list, tuple)) and all([is_integer(item) for item in value])
+    if not isinstance(value, (list, tuple)):
+        return False
+    for item in value:
+        if not isinstance(item, int) or isinstance(item, bool):
+            return False
+    return True
 
 
 def are_parts(value):

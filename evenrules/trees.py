@@ -5,8 +5,7 @@ from evenrules.errors import BadOther, NoKey, Taken, TooMany
 from evenrules.parts import Parts
 from evenrules.rules import need_rule
 from evenrules.saving import Saved
-from evenrules.states import (State, entries_of, halves_state, under_rule, unfair_keys, with_entries, with_entry,
-                              without_entry)
+from evenrules.states import State, entries_of, halves_state, under_rule, unfair_keys, with_entries, without_entry
 
 
 class Tree(Parts):
@@ -47,7 +46,7 @@ class Tree(Parts):
 
     def put(self, key, value=None):
         """Puts a key with a value; one that is there gets the value."""
-        self._state = with_entry(self._state, key, value)
+        self._state = with_entries(self._state, [(key, value)])
 
     def __setitem__(self, key, value):
         self.put(key, value)

@@ -130,6 +130,18 @@ class TestsTest(unittest.TestCase):
                 self.assertEqual([str(test) for test in told], [str(test) for test in wanted], vars(case))
                 self.assertEqual(list(told), wanted)
 
+    def test_all_rules_of_some_weights(self):
+        # Each row of each case, where the numbers of the rules are as far apart as they can be, and where they are one.
+        for p, q, k in ((1, 1, 1), (1, 1, 6), (6, 1, -4), (6, 1, 6), (6, 6, 6), (5, 2, 0), (4, 3, 2)):
+            for rule in (TryRule((p, q), k), TurnRule((p, q), k, turn=(8, 1), turn_plus=6),
+                         TurnRule((p, q), k, turn=(1, 8), turn_plus=-6), TurnRule((p, q), k, turn=(7, 7))):
+                for case in all_cases(rule):
+                    told = tests_of(rule, case)
+                    self.assertEqual(list(told), told_tests(rule, case))
+                    for test in told:
+                        self.assertEqual((test.__class__, test.parts.__class__), (StraightTest, tuple))
+                        self.assertTrue(all(part.__class__ is int for part in (*test.parts, test.bound)))
+
     def test_how_many(self):
         for case in all_cases(TURNS[0]):
             short = case.twice is None or case.twice[0] == "inner"
