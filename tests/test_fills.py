@@ -58,10 +58,12 @@ class MadeTest(unittest.TestCase):
         self.assertNotIsInstance(HALF, WeightRule)
 
     def test_attributes(self):
-        for p, q, k, cut, join in product((1, 7, 12), (1, 5, 12), (-12, -1, 0, 12), range(1, 6), range(2, 7)):
+        # All numbers within their bounds.
+        for p, q, k, cut, join in product(range(1, 13), range(1, 13), range(-12, 13), range(1, 6), range(2, 7)):
             rule = FillRule((p, q), k, cut_of=cut, join_of=join)
-            self.assertEqual((rule.times, rule.plus, rule.cut_of, rule.join_of, rule.width),
-                             ((p, q), k, cut, join, max(cut, join)))
+            told = (rule.times, rule.plus, rule.cut_of, rule.join_of, rule.width)
+            if told != ((p, q), k, cut, join, max(cut, join)):
+                self.fail(told)
         named = FillRule(times=(3, 4), plus=-2, join_of=4, cut_of=2)
         self.assertEqual(named, FillRule((3, 4), -2, cut_of=2, join_of=4))
         self.assertEqual((HALF.plus, HALF.cut_of, HALF.join_of), (0, 1, 2))
