@@ -174,6 +174,14 @@ class LinesTest(DeskCase):
                             ("place h 1", NoName("h")), ("fits r", NoName("r")), ("split h 1 n", NoName("h"))):
             assert_raises(self, error, desk.say, line)
 
+    def test_nodes_that_are_not_fair(self):
+        desk = Desk()
+        desk.run("rule d turn 4/1 0 2/1 -1", "tree t d", *[f"put t {key}" for key in (2, 1, 7, 8, 9, 5, 3, 4, 6)])
+        self.assertEqual(desk.run("unfair t", "shape t", "take t 1", "unfair t", "height t"),
+                         ["-", "(1) 2 (((3 (4)) 5 (6)) 7 (8 (9)))", "none", "2", "5"])
+        self.assertEqual(desk.run("rule r try 3/1 0", "exchange t r", "unfair t", "undo", "unfair t", "undo", "undo", "unfair t"),
+                         ["ok", "ok", "-", "ok", "2", "ok", "ok", "-"])
+
     def test_stuck_and_too_many(self):
         desk = Desk()
         desk.run("rule r turn 3/1 0 1/2 -6", "tree t r", "put t 4", "put t 1", "put t 6")

@@ -204,6 +204,18 @@ class SpillTest(unittest.TestCase):
         self.assertIs(shows_fill(rule, Spill(6, (4, 4, 4, 4), "take", (7, 4, 4))), True)
         self.assertIs(shows_fill(rule, Spill(6, (4, 4, 4), "take", (7, 4))), False)
 
+    def test_a_row_that_is_young_ahead(self):
+        # A young row that a deed leaves old and too thin shows nothing, either.
+        for rule, most in ((FillRule((1, 1)), 5), (FillRule((1, 1), cut_of=3, join_of=4), 9)):
+            row = (most,) * rule.width
+            pages, _ = paging.put(rule, most, [[None] * fill for fill in row], 0, None)
+            behind = tuple(len(page) for page in pages)
+            self.assertEqual((len(behind), paging.keeps(rule, most, pages)), (rule.width + 1, False))
+            self.assertIs(shows_fill(rule, Spill(most, row, "put", behind)), False)
+            pages, _ = paging.put(rule, most, [[None] * most] * (rule.width + 1), 0, None)
+            behind = tuple(len(page) for page in pages)
+            self.assertIs(shows_fill(rule, Spill(most, row + row[:1], "put", behind)), True)
+
     def test_great_sizes(self):
         for rule in (THIN, FillRule((11, 12), cut_of=5, join_of=6), FillRule((2, 3), cut_of=2)):
             for most in (GREAT - 2, GREAT - 1, GREAT):
