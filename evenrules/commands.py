@@ -99,7 +99,7 @@ def add_shelf(things, words):
 def put_key(things, words):
     """A put in a tree or a shelf."""
     holder = things[words[1]].twin()
-    holder.put(read_number(words[2]), read_value(words[3]) if len(words) > 3 else None)
+    holder[read_number(words[2])] = read_value(words[3]) if len(words) > 3 else None
     things[words[1]] = holder
     return "ok"
 
